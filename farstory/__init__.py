@@ -1,0 +1,1 @@
+"""Farstory: what is surely so aboard a probe far away."""
