@@ -1,0 +1,77 @@
+"""The examples of the document, chapters 3 to 7, as they stand there."""
+
+import doctest
+
+from tests.helping import Case
+
+FORMS = """
+>>> from farstory.forms import healing, read_rows, read_value, value_length, write_row, write_value
+>>> write_value([None, -3, "ab"]), value_length(256 ** 2)
+((4, 1, 3, 0, 2, 1, 2, 3, 1, 2, 0, 1), 5)
+>>> octets = write_row(("kept", (None, 3))) + (4, 1, 2, 3)
+>>> read_value((9, 9) + octets, 2), read_rows(octets), healing(octets)
+((('kept', (None, 3)), 19), ((('kept', (None, 3)),), 17), (0, 0))
+"""
+CHAINS = """
+>>> from farstory.chains import chain_holds, chain_through, counts_by, latest_chain, least_chain, split, split_stamps, stamps
+>>> chain = (2, 5, 3, ((0, None), (9, 12), (0, 13)))
+>>> stamps(chain), least_chain(chain), latest_chain(chain), chain_holds(chain, [6, 9, 13])
+(((5, 8), (9, 11), (11, 13)), (5, 9, 11), (8, 11, 13), True)
+>>> chain_through(chain, 0, 8), chain_through(chain, 0, 4), split(chain, 10), split_stamps(chain, 1), split_stamps(chain, 3)
+((8, 10, 12), None, (1, 2), (5, 10), (11, None))
+>>> counts_by(2, 5, 3, 0, 20), counts_by(2, 5, None, 6, 20), stamps((2, 5, None, ((0, None), (0, 1))))
+((3, 8), None, None)
+"""
+SPANS = """
+>>> from farstory.spans import are_nested, check_span, join, rest, row_span, span_of, total, values_for
+>>> one, other = span_of(4, (5, -2)), join(row_span(6, 3), row_span(7, 3))
+>>> one, other, join(one, other), total([one, row_span(6, 3)])
+((4, 2, 3, -2, 5), (6, 2, 6, 3, 3), (4, 4, 9, -2, 5), (4, 3, 6, -2, 5))
+>>> rest(join(one, other), [row_span(5, -2)]), are_nested([one, other, (4, 4, 9, -2, 5)]), are_nested([one, (5, 1, 0, 0, 0), (5, 2, 1, 0, 1)])
+(((4, 6, 7), 11), True, False)
+>>> sorted(values_for((0, 2, 3, -2, 5)))
+[-2, 5]
+"""
+STORES = """
+>>> from farstory.shapes import counts_of, first_behind, most_many, most_spans, shape, span_at
+>>> from farstory.stores import laid_all, lay, let_go, shape_of, span_with
+>>> store = laid_all(2, [(3, 5), (4, -2), (9, 3), (11, 3), (12, 8)])
+>>> store, counts_of(2, 5), let_go(store, 3) == (5, 12, store[2][1:])
+((5, 12, ((0, 2, 3, -2, 5), (2, 2, 6, 3, 3), (4, 1, 8, 8, 8))), (1, 2), True)
+>>> shape_of(lay(let_go(store, 2), 2, 13, 0)), shape(2, 2, 6), span_with(store, 1)[:2], span_at(2, 2, 6, 1)
+(((2, 2), (4, 1), (5, 1)), ((2, 2), (4, 1), (5, 1)), (0, 2), None)
+>>> first_behind(2, 0, 5, 3), most_many(2, 6), most_spans(2, 9)
+(2, 4, 4)
+"""
+VALUES = """
+>>> from farstory.values import known_span, rest_of, some_values, span_quarrel, values_fit, values_of
+>>> spans = ((0, 1, 1, 1, 1), (0, 4, 10, 1, 5))
+>>> rest_of(spans, spans[1]), span_quarrel(spans), values_of(spans, 0), values_of(spans, 2), values_of(spans, 4)
+(((1, 2, 3), 9, False, True), None, ((1, 1),), ((1, 3), (5, 5)), ((-1000000, 1000000),))
+>>> values_fit(spans, some_values(spans, 2, 3)), span_quarrel(((0, 2, 9, 1, 5),)), known_span(spans + ((4, 4, 0, -1, 1),), 0, 8)
+(True, ('unfit', (0, 2, 9, 1, 5)), (0, 8, 10, -1, 5))
+"""
+
+
+class Examples(Case):
+    def holds(self, examples, count):
+        test = doctest.DocTestParser().get_doctest(examples, {}, "examples", None, 0)
+        self.assertEqual(len(test.examples), count)
+        told = []
+        result = doctest.DocTestRunner(verbose=False).run(test, out=told.append)
+        self.assertEqual(result.failed, 0, "".join(told))
+
+    def test_forms(self):
+        self.holds(FORMS, 4)
+
+    def test_chains(self):
+        self.holds(CHAINS, 5)
+
+    def test_spans(self):
+        self.holds(SPANS, 5)
+
+    def test_stores(self):
+        self.holds(STORES, 6)
+
+    def test_values(self):
+        self.holds(VALUES, 4)
