@@ -71,7 +71,7 @@ def stretches_of(chain):
     stretches = forward(chain)
     for row in reversed(range(len(windows) - 1)):
         low, high = stretches[row + 1]
-        stretches[row] = within(stretches[row], (max(0, low - pause), high - gap))
+        stretches[row] = within(stretches[row], (low - pause, high - gap))
     if any([low > high for low, high in stretches]):
         return None
     return stretches

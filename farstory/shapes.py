@@ -76,7 +76,6 @@ def first_of(some, laid):
 
 def lay_shape(laid, some, keep):
     """The shape behind one row more, so many having been laid ahead."""
-    need_keep(keep)
     if not is_shape(keep, laid, some):
         raise Refused(some)
     return shape_from(keep, first_of(some, laid), laid + 1)

@@ -149,10 +149,7 @@ def stretches_at(told, row):
     found = [(need, need) for need in needs if can_be(others, whole - need, span, without(needs, need))]
     sums = sums_with(others, span[3], span[4], needs)
     if sums is not None:
-        low = max(span[3], whole - sums[1])
-        high = min(span[4], whole - sums[0])
-        if low <= high:
-            found.append((low, high))
+        found.append((max(span[3], whole - sums[1]), min(span[4], whole - sums[0])))
     return merged(found)
 
 

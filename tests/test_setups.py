@@ -82,6 +82,9 @@ class Letters(Case):
             for number in (1, 2, 10 ** 9):
                 self.same(check_letter(SETUP, (number, deed)), (number, deed))
                 self.same(check_letter(SETUP, [number, list(deed)]), (number, deed))
+        self.same(check_letter(BROAD, (1, ("free", 5, 3))), (1, ("free", 5, 3)))
+        self.refuses((1, ("free", 6, 3)), check_letter, BROAD, (1, ("free", 6, 3)))
+        self.refuses((1, ("free", 1, 3)), check_letter, WHOLE, (1, ("free", 1, 3)))
 
     def test_no_letters(self):
         note = ("note", 9)
