@@ -134,6 +134,12 @@ def split(chain, stamp):
     return fewest, len([low for low, high in stretches if low <= stamp])
 
 
+def parted_at(stretches, count):
+    """(least, greatest) stamp, perhaps none, at which, or ahead, just so many rows are; None for no bound."""
+    least = stretches[count - 1][0] if count > 0 else 0
+    return least, None if count == len(stretches) else stretches[count][1] - 1
+
+
 def split_stamps(chain, count):
     """(least, greatest) stamp at which, or ahead, just so many rows can be; None if there is none."""
     checked = check_chain(chain)
@@ -142,11 +148,8 @@ def split_stamps(chain, count):
     stretches = stretches_of(checked)
     if stretches is None:
         return None
-    least = stretches[count - 1][0] if count > 0 else 0
-    if count == len(stretches):
-        return least, None
-    greatest = stretches[count][1] - 1
-    return (least, greatest) if least <= greatest else None
+    least, greatest = parted_at(stretches, count)
+    return (least, greatest) if greatest is None or least <= greatest else None
 
 
 def counts_by(gap, pause, begin, low, stamp):

@@ -12,9 +12,8 @@ def is_text(value):
     return all(sign in SIGNS for sign in value)
 
 
-def figures(number):
-    """The octets that a number needs, the greatest part first."""
-    many = octets_needed(number)
+def figures(number, many):
+    """A number as so many octets, the greatest part first, as a list."""
     return [(number >> (8 * place)) & 255 for place in reversed(range(many))]
 
 
@@ -48,7 +47,8 @@ def is_row(value):
 
 def told(number):
     """How many octets a number needs, and these."""
-    return [octets_needed(number), *figures(number)]
+    many = octets_needed(number)
+    return [many, *figures(number, many)]
 
 
 def form(value):

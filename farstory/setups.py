@@ -1,7 +1,7 @@
 """Setups of probes; the deeds, letters and frames of a setup."""
 
 from farstory.chains import are_steps
-from farstory.errors import BadFrame, BadSetup, Refused
+from farstory.errors import BadFrame, BadSetup, NoClass, Refused
 from farstory.shapes import is_keep, shape
 from farstory.spans import is_span
 from farstory.words import is_number, is_of_parts, is_sequence
@@ -47,6 +47,11 @@ def is_kind_of(kinds, value):
     return is_number(value) and value < len(kinds)
 
 
+def need_kind(kinds, value):
+    if not is_kind_of(kinds, value):
+        raise NoClass(value)
+
+
 def is_deed(kinds, value):
     if is_of_parts(value, 2):
         return value[0] == "note" and is_number(value[1]) and value[1] < MOST_NOTES
@@ -85,6 +90,11 @@ def are_marks(kinds, value):
     return is_of_parts(value, len(kinds)) and all(is_mark(mark) for mark in value)
 
 
+def shapes_of(kinds, marks):
+    """By kind the shape that its marks tell, as a list."""
+    return [shape(kind[2], mark[1], mark[0]) for kind, mark in zip(kinds, marks)]
+
+
 def is_load(shapes, value):
     """Whether any value is (kind, span), the span standing in the kind's shape."""
     if not is_of_parts(value, 2) or not is_number(value[0]) or value[0] >= len(shapes):
@@ -95,7 +105,7 @@ def is_load(shapes, value):
 def is_cargo(kinds, marks, value):
     if not is_sequence(value) or len(value) > MOST_CARGO:
         return False
-    shapes = [shape(kind[2], mark[1], mark[0]) for kind, mark in zip(kinds, marks)]
+    shapes = shapes_of(kinds, marks)
     return all([is_load(shapes, load) for load in value])
 
 

@@ -3,6 +3,7 @@
 from farstory.errors import Quarrel, Refused
 from farstory.spans import MOST_VALUE, behind, is_apart, is_reading, is_within, rows_between, span_of_all
 from farstory.spans import spread, sums_with
+from farstory.stretches import has, merged
 from farstory.words import is_integer, is_number, is_of_parts, is_sequence, need_number
 
 
@@ -125,17 +126,6 @@ def without(needs, value):
     return [need for need in needs if need != value]
 
 
-def merged(stretches):
-    """The stretches of integers, ascending, as few as can be."""
-    out = []
-    for low, high in sorted(stretches):
-        if out and low <= out[-1][1] + 1:
-            out[-1] = (out[-1][0], max(out[-1][1], high))
-        else:
-            out.append((low, high))
-    return tuple(out)
-
-
 def stretches_at(told, row):
     """The stretches of all values that the row has in some values that fit."""
     span = least_with(told, row)
@@ -180,7 +170,7 @@ def some_values(spans, row, value):
     """Some (row, value) of all rows of the spans, and this one, that fit, the row having this value."""
     told = need_fitting(spans)
     need_number(row)
-    if not is_integer(value) or not any([low <= value <= high for low, high in stretches_at(told, row)]):
+    if not is_integer(value) or not has(stretches_at(told, row), value):
         raise Refused(value)
     found = {row: value}
     for span in told:

@@ -25,6 +25,11 @@ def need_number(value):
         raise Refused(value)
 
 
+def need_integer(value):
+    if not is_integer(value):
+        raise Refused(value)
+
+
 def need_octets(value):
     """The octets as a tuple; BadOctets tells where any other value is none."""
     if not is_sequence(value):

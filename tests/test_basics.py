@@ -16,6 +16,12 @@ SETUP = (((1, 4, 2), (3, 9, 2)), (2, 5), (1, 1))
 FRAME = (0, 4, 0, ((3, 0, 4), (1, 0, 3)), ((0, (0, 2, 12, 5, 7)), (1, (0, 1, 40, 40, 40))))
 ROW = (4, 1, 2, 3, 1, 1, 0, 4, 1, 1, 0)
 THING = ("ab", (1, ()), None)
+LETTER = (1, ("free", 0, 2))
+FRAME_OCTETS = (
+    0, 0, 0, 0, 0, 0, 0, 4, 0, 0, 0, 0, 0, 0, 3, 0, 0, 0, 0, 4, 0, 0, 1, 0, 0, 0, 0, 3, 2, 0, 0, 15, 66, 69, 0, 0, 2, 1, 0, 15,
+    66, 104)
+LETTER_OCTETS = (0, 0, 0, 1, 0, 0, 0, 0, 2)
+LOGS = ((("heard", 7, FRAME), ("sent", 8, LETTER)), (("heard", 8, FRAME),))
 
 # By module each function of the interface, its parameters, and arguments of calls that it answers.
 CALLS = (
@@ -80,9 +86,36 @@ CALLS = (
     ("setups", "check_deed", ("setup", "value"), ((SETUP, ("free", 1, 7)),)),
     ("setups", "check_letter", ("setup", "value"), ((SETUP, (3, ("note", 7))),)),
     ("setups", "check_frame", ("setup", "value"), ((SETUP, FRAME),)),
+    ("packing", "frame_octets", ("setup", "frame"), ((SETUP, FRAME),)),
+    ("packing", "letter_octets", ("setup", "letter"), ((SETUP, LETTER), (SETUP, (9, ("note", 7))))),
+    ("packing", "frame_length", ("setup", "frame"), ((SETUP, FRAME),)),
+    ("packing", "most_length", ("setup", "many"), ((SETUP, 3),)),
+    ("packing", "frame_at", ("setup", "octets", "at"), ((SETUP, (9,) + FRAME_OCTETS, 1),)),
+    ("packing", "letter_at", ("setup", "octets", "at"), ((SETUP, LETTER_OCTETS, 0),)),
+    ("link", "heard_ticks", ("setup", "offset", "stamp"), ((SETUP, -9, 4),)),
+    ("link", "come_stamps", ("setup", "offset", "ticks"), ((SETUP, 100, (90, 120, 108, 109)),)),
+    ("link", "echo", ("setup",), ((SETUP,),)),
+    ("link", "offsets_heard", ("setup", "hearings"), ((SETUP, ((4, 107), (9, 111))), (SETUP, ((4, 107), (9, 116))))),
+    ("link", "offsets_come", ("setup", "stamp", "ticks"), ((SETUP, 9, (108, 110)),)),
+    ("logs", "check_logs", ("setup", "value"), ((SETUP, LOGS), (SETUP, ((), ())))),
+    ("logs", "last_tick", ("logs",), ((LOGS,), (((), ()),))),
+    ("logs", "joined", ("setup", "logs"), ((SETUP, LOGS),)),
+    ("logs", "outstanding", ("frames", "letters"), (((FRAME,), ((1, LETTER[1], (8,)),)), ((), ()))),
 )
 
-# Functions whose last argument, or only one, may be any value, and what they then may raise.
+# By module each class of the interface, the parameters of a new one, its methods with theirs, and its attributes.
+CLASSES = (
+    ("probe", "Probe", ("setup",), (
+        ("due", ("kind",)), ("marks", ()), ("lay", ("kind", "stamp", "value")), ("take", ("stamp", "letter")),
+        ("frame", ("stamp", "places")),
+    ), (SETUP,), ("setup", "taken", "number", "stores", "notes")),
+    ("link", "Link", ("setup", "offset"), (
+        ("down", ("frame",)), ("up", ("tick", "letter")), ("can_hear", ("tick",)), ("can_come", ("stamp",)),
+        ("hear", ("tick", "number")), ("come", ("stamp", "number")), ("is_over", ("tick",)),
+    ), (SETUP, 100), ("setup", "offset", "frames", "letters")),
+)
+
+# Functions of which an argument may be any value: those ahead of it, what they then may raise, those behind it.
 OF_ANY_VALUE = (
     ("words", "need_octets", (), errors.BadOctets), ("forms", "is_value", (), ()), ("forms", "is_row", (), ()),
     ("forms", "write_value", (), errors.Refused), ("forms", "value_length", (), errors.Refused),
@@ -100,11 +133,28 @@ OF_ANY_VALUE = (
     ("values", "span_quarrel", (), errors.Refused), ("values", "values_fit", (TOLD,), ()),
     ("setups", "check_setup", (), errors.BadSetup), ("setups", "check_deed", (SETUP,), errors.Refused),
     ("setups", "check_letter", (SETUP,), errors.Refused), ("setups", "check_frame", (SETUP,), errors.BadFrame),
+    ("probe", "Probe", (), errors.BadSetup), ("packing", "frame_octets", (SETUP,), errors.BadFrame),
+    ("packing", "frame_length", (SETUP,), errors.BadFrame), ("packing", "letter_octets", (SETUP,), errors.Refused),
+    ("packing", "most_length", (SETUP,), errors.Refused),
+    ("packing", "frame_at", (SETUP, FRAME_OCTETS), (errors.Refused, errors.Broken)),
+    ("packing", "letter_at", (SETUP, LETTER_OCTETS), (errors.Refused, errors.Broken)),
+    ("packing", "most_length", (), errors.BadSetup, 0), ("link", "echo", (), errors.BadSetup),
+    ("link", "heard_ticks", (SETUP, 3), errors.Refused), ("link", "heard_ticks", (SETUP,), errors.Refused, 0),
+    ("link", "come_stamps", (SETUP, 3), errors.Refused), ("link", "come_stamps", (SETUP,), errors.Refused, (1,)),
+    ("link", "offsets_heard", (SETUP,), errors.Refused), ("link", "offsets_come", (SETUP, 3), errors.Refused),
+    ("link", "offsets_come", (SETUP,), errors.Refused, (1,)), ("link", "Link", (SETUP,), errors.Refused),
+    ("logs", "check_logs", (SETUP,), errors.BadLog), ("logs", "joined", (SETUP,), (errors.BadLog, errors.Quarrel)),
 )
 
 
 def function_of(module, name):
     return getattr(importlib.import_module("farstory." + module), name)
+
+
+def any_value_calls():
+    """(function, arguments ahead, what it may raise, arguments behind), of each that takes any value."""
+    for module, name, ahead, described, *behind in OF_ANY_VALUE:
+        yield function_of(module, name), ahead, described, tuple(behind)
 
 
 def all_calls():
@@ -127,6 +177,24 @@ class Interface(Case):
             for parameter in told.values():
                 self.assertEqual(parameter.kind, inspect.Parameter.POSITIONAL_OR_KEYWORD, name)
                 self.assertIs(parameter.default, inspect.Parameter.empty, name)
+
+
+    def test_classes(self):
+        for module, name, parameters, methods, args, attributes in CLASSES:
+            made = function_of(module, name)
+            self.assertEqual((made.__module__, made.__name__), ("farstory." + module, name))
+            self.assertTrue(inspect.isclass(made))
+            self.assertEqual(tuple(inspect.signature(made).parameters), parameters)
+            for method, wanted in methods:
+                # Defined in that class itself, not only in a base class.
+                self.assertTrue(inspect.isfunction(vars(made)[method]), method)
+                self.assertEqual(tuple(inspect.signature(vars(made)[method]).parameters)[1:], wanted)
+            new = made(*args)
+            for attribute in attributes:
+                self.assertIn(attribute, vars(new))
+            self.same(tuples(vars(made(**dict(zip(parameters, lists(args)))))), tuples(vars(new)))
+            self.same([getattr(new, attribute) for attribute in attributes],
+                      [tuples(getattr(new, attribute)) for attribute in attributes])
 
 
 class AllCalls(Case):
@@ -165,10 +233,10 @@ class AllCalls(Case):
 
     def test_again_whatever_was_called_between(self):
         first = [repr(function(*args)) for function, _, args in all_calls()]
-        for module, name, ahead, _ in OF_ANY_VALUE:
+        for function, ahead, _, behind in any_value_calls():
             for value in ODD:
                 try:
-                    function_of(module, name)(*ahead, value)
+                    function(*ahead, value, *behind)
                 except (ValueError, KeyError):
                     pass
         again = [repr(function(*args)) for function, _, args in list(all_calls())[::-1]]
@@ -184,26 +252,26 @@ class AllCalls(Case):
 class AnyValue(Case):
     def test_only_what_is_described_is_raised(self):
         deep = [nested(depth) for depth in (2, 39, 40, 41, 50)]
-        for module, name, ahead, described in OF_ANY_VALUE:
+        for function, ahead, described, behind in any_value_calls():
             for value in ODD + tuple(deep) + tuple(lists(deep)) + ((errors.NoRow(3),) * 5, [None] * 3, ("", "", "")):
                 try:
-                    found = function_of(module, name)(*ahead, value)
+                    found = function(*ahead, value, *behind)
                 except described:
                     continue
                 self.same(found, tuples(found))
 
     def test_whether_is_a_bool(self):
-        for module, name, ahead, described in OF_ANY_VALUE:
+        for function, ahead, described, behind in any_value_calls():
             if described == ():
                 for value in ODD:
-                    self.assertIn(repr(function_of(module, name)(*ahead, value)), ("True", "False"))
+                    self.assertIn(repr(function(*ahead, value, *behind)), ("True", "False"))
 
     def test_what_is_refused_is_kept_itself(self):
-        for module, name, ahead, described in OF_ANY_VALUE:
+        for function, ahead, described, behind in any_value_calls():
             if described is errors.Refused:
                 for value in ([[[True]]], errors.Refused(0), [None, [True]], "A"):
                     with self.assertRaises(errors.Refused) as caught:
-                        function_of(module, name)(*ahead, value)
+                        function(*ahead, value, *behind)
                     self.assertIs(caught.exception.at, value)
 
 

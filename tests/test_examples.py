@@ -1,4 +1,4 @@
-"""The examples of the document, chapters 3 to 7, as they stand there."""
+"""The examples of the document, chapters 3 to 11, as they stand there."""
 
 import doctest
 
@@ -51,6 +51,46 @@ VALUES = """
 >>> values_fit(spans, some_values(spans, 2, 3)), span_quarrel(((0, 2, 9, 1, 5),)), known_span(spans + ((4, 4, 0, -1, 1),), 0, 8)
 (True, ('unfit', (0, 2, 9, 1, 5)), (0, 8, 10, -1, 5))
 """
+PROBE = """
+>>> from farstory.probe import Probe
+>>> probe = Probe((((1, 4, 2), (3, 9, 2)), (2, 5), (1, 1)))
+>>> probe.lay(0, 1, 7), probe.lay(0, 3, 5), probe.lay(1, 3, 40), probe.lay(0, 4, 6), probe.due(0), probe.due(1)
+(0, 1, 0, 2, 8, 12)
+>>> probe.frame(4, [(0, 0), (1, 0)]), probe.take(5, (2, ("note", 9))), probe.take(6, (1, ("free", 0, 2))), probe.marks()
+((0, 4, 0, ((3, 0, 4), (1, 0, 3)), ((0, (0, 2, 12, 5, 7)), (1, (0, 1, 40, 40, 40)))), False, True, ((3, 2, 4), (1, 0, 3)))
+"""
+PACKING = """
+>>> from farstory.packing import frame_at, frame_length, frame_octets, letter_at, letter_octets, most_length
+>>> setup = (((1, 4, 2), (3, 9, 2)), (2, 5), (1, 1))
+>>> frame = (0, 4, 0, ((3, 0, 4), (1, 0, 3)), ((0, (0, 2, 12, 5, 7)), (1, (0, 1, 40, 40, 40))))
+>>> frame_octets(setup, frame)[12:]
+(0, 0, 3, 0, 0, 0, 0, 4, 0, 0, 1, 0, 0, 0, 0, 3, 2, 0, 0, 15, 66, 69, 0, 0, 2, 1, 0, 15, 66, 104)
+>>> frame_at(setup, (9,) + frame_octets(setup, frame), 1) == (frame, 43), frame_length(setup, frame), most_length(setup, 1)
+(True, 42, 46)
+>>> letter_octets(setup, (1, ("free", 0, 2))), letter_at(setup, (0, 0, 0, 3, 1, 3, 231, 5), 0)
+((0, 0, 0, 1, 0, 0, 0, 0, 2), ((3, ('note', 999)), 7))
+"""
+LINK = """
+>>> from farstory.link import Link, come_stamps, echo, heard_ticks, offsets_come, offsets_heard
+>>> setup = (((1, 4, 2),), (2, 5), (1, 1))
+>>> heard_ticks(setup, 100, 4), come_stamps(setup, 100, [90, 108, 109, 120]), echo(setup)
+((106, 109), ((9, 10), (21, 21)), 3)
+>>> offsets_heard(setup, [(4, 107), (9, 111)]), offsets_heard(setup, [(4, 107), (9, 116)]), offsets_come(setup, 9, [108, 110])
+((98, 100), None, ((100, 100), (102, 102)))
+>>> link, frame = Link(setup, 100), (0, 3, 0, ((0, 0, None),), ())
+>>> link.down(frame), link.up(104, (1, ("note", 9))), link.up(106, (1, ("note", 9)))
+(103, 1, 2)
+>>> link.hear(108, 0) == frame, link.can_hear(109), link.can_come(5), link.can_come(6), link.is_over(107), link.is_over(108)
+(True, (), ((1, ('note', 9)),), (), False, True)
+"""
+LOGS = """
+>>> from farstory.logs import check_logs, joined, outstanding
+>>> setup = (((2, 3, 2),), (1, 2), (1, 1))
+>>> frame = (0, 4, 0, ((2, 0, 3),), ((0, (0, 1, 7, 7, 7)),))
+>>> logs = ((("sent", 10, (1, ("free", 0, 1))), ("heard", 12, frame)), (("heard", 11, frame),))
+>>> joined(setup, logs)[1:], outstanding((frame,), joined(setup, logs)[2])
+((((0, 11), (0, 12)), ((1, ('free', 0, 1), (10,)),)), (1, ('free', 0, 1), (10,)))
+"""
 
 
 class Examples(Case):
@@ -75,3 +115,15 @@ class Examples(Case):
 
     def test_values(self):
         self.holds(VALUES, 4)
+
+    def test_probe(self):
+        self.holds(PROBE, 4)
+
+    def test_packing(self):
+        self.holds(PACKING, 6)
+
+    def test_link(self):
+        self.holds(LINK, 7)
+
+    def test_logs(self):
+        self.holds(LOGS, 5)

@@ -9,23 +9,12 @@ from farstory.shapes import (
 from farstory.spans import are_nested
 from farstory.stores import empty_store, is_store, laid_all, lay, let_go, shape_of, span_with
 from tests.helping import NO_INTEGERS, NO_NUMBERS, ODD, Case, lists, tuples
+from tests.plain import plain_lay
 
 FAR = 10 ** 6
 KEEPS = (2, 3, 4, 5, 8)
 NO_KEEPS = NO_INTEGERS + (-1, 0, 1, 9, 10, 256 ** 201)
 STORE = (5, 12, ((0, 2, 3, -2, 5), (2, 2, 6, 3, 3), (4, 1, 8, 8, 8)))
-
-
-def plain_lay(spans, keep, row):
-    """The (first, many) of spans, led on by the rule of point 14, word by word."""
-    spans = spans + [(row, 1)]
-    while True:
-        sizes = sorted({many for _, many in spans if len([1 for _, other in spans if other == many]) > keep})
-        if not sizes:
-            return spans
-        one, other = [at for at, (_, many) in enumerate(spans) if many == sizes[0]][:2]
-        assert other == one + 1
-        spans = spans[:one] + [(spans[one][0], 2 * sizes[0])] + spans[other + 1:]
 
 
 def plain_spans(places, values):
