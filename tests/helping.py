@@ -3,6 +3,7 @@
 import unittest
 
 from farstory import errors
+from farstory.logs import check_logs
 
 # Values of all sorts; each test passes those that its function must not take.
 ODD = (
@@ -35,6 +36,14 @@ def nested(depth):
     for _ in range(depth - 1):
         value = (value,)
     return value
+
+
+def are_logs(setup, logs):
+    try:
+        check_logs(setup, logs)
+    except errors.BadLog:
+        return False
+    return True
 
 
 class Case(unittest.TestCase):

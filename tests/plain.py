@@ -1,5 +1,8 @@
 """Plain reckoning of stories, and flights led at random: nothing of it is taken from the package."""
 
+import functools
+import random
+
 
 def plain_lay(spans, keep, row):
     """The (first, many) of spans, led on by the rule of point 14, word by word."""
@@ -255,6 +258,7 @@ def random_flight(chance, end, kinds=2, wide=3):
     setup = random_setup(chance, chance.randrange(1, kinds + 1), wide)
     flight = Flight(chance, setup, chance.randrange(-2, 4), chance.randrange(1, 4))
     eager = chance.randrange(2, 5)
+    flight.end = max(end, flight.offset - 1)
     for tick in range(flight.offset, end + 1):
         flight.step(tick, eager)
     return setup, flight
@@ -299,3 +303,77 @@ def bent(chance, logs):
 def part_of(chance, logs, share):
     """The logs without some rows: what is left is a log still, if its numbers are."""
     return tuple(tuple(row for row in log if chance.randrange(share)) for log in logs)
+
+
+def plain_steps(kind, stamps, end):
+    """Whether stamps are a way in which rows of a kind can be laid up to a stamp, the next one coming behind it."""
+    gap, pause, _ = kind
+    ahead = None
+    for stamp in stamps:
+        least, most = (0, pause) if ahead is None else (ahead + gap, ahead + pause)
+        if not least <= stamp <= min(most, end):
+            return False
+        ahead = stamp
+    return (pause if ahead is None else ahead + pause) > end
+
+
+def plain_holds(setup, logs, now, story):
+    """Word by word as point 36 has it, of a story in its form."""
+    offset, takings, rows = story
+    frames, letters = frames_of(logs), letters_of(logs)
+    down, up = setup[1:]
+    if frames is None or any(one[1] >= other[1] for one, other in zip(frames, frames[1:])):
+        return False
+    if not all(plain_steps(kind, [row[0] for row in laid], now - offset) for kind, laid in zip(setup[0], rows)):
+        return False
+    for letter, stamp in zip(letters, takings):
+        if stamp is not None and (stamp + offset > now or not any(
+                up[0] <= stamp + offset - tick <= up[1] for tick in letter[2])):
+            return False
+    if not all(down[0] <= row[1] - row[2][1] - offset <= down[1] for log in logs for row in log if row[0] == "heard"):
+        return False
+    taken = [letter[0] for letter, stamp in zip(letters, takings) if stamp is not None]
+    if taken != list(range(1, len(taken) + 1)):
+        return False
+    for frame in frames:
+        if frame[2] != len([1 for stamp in takings if stamp is not None and stamp <= frame[1]]):
+            return False
+        for kind, laid in enumerate(rows):
+            stamps = [row[0] for row in laid]
+            if not agrees(setup, kind, stamps, frees_of(letters, takings, kind), [frame]):
+                return False
+        for kind, span in frame[4]:
+            if span != plain_span(span[:2], [row[1] for row in rows[kind]]):
+                return False
+    return True
+
+
+@functools.lru_cache(maxsize=None)
+def flights(first, many, end=11):
+    """(setup, logs, now, all that is so at now by force) of so many flights whose logs have a story."""
+    found, seed = [], first
+    while len(found) < many:
+        chance = random.Random(seed)
+        seed += 1
+        setup, flight = random_flight(chance, chance.randrange(4, end + 1))
+        logs = frozen(flight.logs)
+        if frames_of(logs):
+            now = max([row[1] for log in logs for row in log]) + chance.randrange(4)
+            present = plain_present(setup, logs, now)
+            # A letter that let rows go, or can have, and offsets that are open are worth more than others.
+            if chance.randrange(3) == 0 or present[1] and len(present[0]) > 1:
+                found.append((setup, logs, now, present))
+    return found
+
+
+def parted_logs(chance):
+    """(setup, logs) of a letter, taken between two frames, of which copies were sent at several ticks far apart."""
+    way = chance.randrange(3)
+    setup = (((1, 2, 2),), (0, chance.randrange(4, 12)), (way, way + chance.randrange(2)))
+    offset, stamp, step = chance.randrange(3), chance.randrange(1, 4), chance.randrange(1, 3)
+    one = (0, stamp, 0, ((stamp + 1, 0, stamp),), ())
+    other = (3, stamp + step, 1, ((stamp + step + 1, 0, stamp + step),), ())
+    copies = sorted({max(0, stamp + step + offset - way + more) for more in (0, chance.randrange(-4, 6), chance.randrange(9))})
+    ticks = [frame[1] + offset + chance.randrange(setup[1][1] + 1) for frame in (one, other)]
+    rows = [("sent", tick, (1, ("note", 7))) for tick in copies]
+    return setup, (tuple(rows), (("heard", ticks[0], one),), (("heard", ticks[1], other),))

@@ -22,6 +22,11 @@ FRAME_OCTETS = (
     66, 104)
 LETTER_OCTETS = (0, 0, 0, 1, 0, 0, 0, 0, 2)
 LOGS = ((("heard", 7, FRAME), ("sent", 8, LETTER)), (("heard", 8, FRAME),))
+LATER = (3, 9, 1, ((5, 2, 8), (2, 0, 9)), ((0, (4, 1, 6, 6, 6)),))
+FLIGHT = (LOGS[0] + (("heard", 13, LATER), ("sent", 14, (2, ("note", 7)))), LOGS[1])
+STORY = (1, (8, None), (((1, 5), (3, 7), (4, 0), (6, 0), (8, 6), (12, 1)), ((3, 40), (9, 0))))
+KNOWN = (((0, 2, 7, 3, 4), (4, 1, 9, 9, 9)), ())
+MORE = (((0, 4, 10, 1, 4), (2, 1, 2, 2, 2)), ())
 
 # By module each function of the interface, its parameters, and arguments of calls that it answers.
 CALLS = (
@@ -101,6 +106,30 @@ CALLS = (
     ("logs", "last_tick", ("logs",), ((LOGS,), (((), ()),))),
     ("logs", "joined", ("setup", "logs"), ((SETUP, LOGS),)),
     ("logs", "outstanding", ("frames", "letters"), (((FRAME,), ((1, LETTER[1], (8,)),)), ((), ()))),
+    ("stories", "story_holds", ("setup", "logs", "now", "value"), ((SETUP, FLIGHT, 14, STORY), (SETUP, FLIGHT, 14, 0))),
+    ("offsets", "segments", ("setup", "frames"), ((SETUP, (FRAME, LATER)), (SETUP, ()))),
+    ("offsets", "taking_by_count", ("setup", "one", "other", "deed"), (
+        (SETUP, FRAME, LATER, ("note", 7)), (SETUP, FRAME, LATER, ("free", 1, 0)))),
+    ("offsets", "told_spans", ("frames", "kind"), (((FRAME, LATER), 0),)),
+    ("offsets", "bindings", ("setup", "logs"), ((SETUP, FLIGHT), (SETUP, LOGS))),
+    ("offsets", "offsets", ("setup", "logs"), ((SETUP, FLIGHT), (SETUP, LOGS))),
+    ("offsets", "past_rows", ("setup", "logs", "offset"), ((SETUP, LOGS, 0), (SETUP, LOGS, 1))),
+    ("offsets", "past_story", ("setup", "logs", "offset"), ((SETUP, LOGS, 0), (SETUP, LOGS, 1))),
+    ("counts", "letter_word", ("setup", "logs", "now"), ((SETUP, LOGS, 8), (SETUP, LOGS, 11))),
+    ("counts", "pairs", ("setup", "logs", "now", "kind"), ((SETUP, LOGS, 11, 0),)),
+    ("counts", "laid_now", ("setup", "logs", "now", "kind"), ((SETUP, LOGS, 11, 1),)),
+    ("aboard", "shapes_at", ("setup", "logs", "tick", "kind"), ((SETUP, LOGS, 11, 0),)),
+    ("aboard", "row_words", ("setup", "logs", "now", "kind", "row"), ((SETUP, LOGS, 11, 0, 1),)),
+    ("aboard", "row_word", ("setup", "logs", "now", "kind", "row"), ((SETUP, LOGS, 11, 0, 1), (SETUP, LOGS, 11, 0, 99))),
+    ("aboard", "word_in", ("setup", "logs", "now", "value", "kind", "row"), ((SETUP, FLIGHT, 14, STORY, 0, 1),)),
+    ("known", "check_known", ("setup", "value"), ((SETUP, KNOWN),)),
+    ("known", "known_of", ("setup", "logs"), ((SETUP, FLIGHT), (SETUP, LOGS))),
+    ("known", "both_known", ("setup", "one", "other"), ((SETUP, KNOWN, MORE),)),
+    ("known", "tells_all", ("setup", "known", "other"), ((SETUP, KNOWN, MORE), (SETUP, KNOWN, KNOWN))),
+    ("known", "row_known", ("setup", "known", "kind", "row"), ((SETUP, KNOWN, 0, 1), (SETUP, MORE, 0, 2), (SETUP, MORE, 1, 2))),
+    ("known", "picture", ("setup", "known", "kind", "laid"), ((SETUP, KNOWN, 0, 9),)),
+    ("known", "lacks", ("setup", "known", "kind", "laid"), ((SETUP, KNOWN, 0, 9),)),
+    ("known", "told_to", ("setup", "known", "kind"), ((SETUP, KNOWN, 0),)),
 )
 
 # By module each class of the interface, the parameters of a new one, its methods with theirs, and its attributes.
@@ -144,6 +173,19 @@ OF_ANY_VALUE = (
     ("link", "offsets_heard", (SETUP,), errors.Refused), ("link", "offsets_come", (SETUP, 3), errors.Refused),
     ("link", "offsets_come", (SETUP,), errors.Refused, (1,)), ("link", "Link", (SETUP,), errors.Refused),
     ("logs", "check_logs", (SETUP,), errors.BadLog), ("logs", "joined", (SETUP,), (errors.BadLog, errors.Quarrel)),
+    ("stories", "story_holds", (SETUP, FLIGHT, 14), ()), ("stories", "story_holds", (SETUP, LOGS), errors.Refused, STORY),
+    ("stories", "story_holds", (SETUP,), (errors.BadLog, errors.Refused), 5, None),
+    ("offsets", "bindings", (), errors.BadSetup, FLIGHT), ("offsets", "offsets", (SETUP,), (errors.BadLog, errors.Refused)),
+    ("offsets", "past_rows", (SETUP, LOGS), errors.Refused), ("offsets", "past_story", (SETUP, LOGS), errors.Refused),
+    ("counts", "letter_word", (SETUP, LOGS), errors.Refused), ("counts", "pairs", (SETUP, LOGS, 9), errors.NoClass),
+    ("counts", "laid_now", (SETUP, LOGS, 9), errors.NoClass), ("aboard", "shapes_at", (SETUP, LOGS, 9), errors.NoClass),
+    ("aboard", "row_words", (SETUP, LOGS, 9, 0), errors.NoRow), ("aboard", "row_word", (SETUP, LOGS, 9), errors.NoClass, 3),
+    ("aboard", "word_in", (SETUP, FLIGHT, 14), errors.Refused, 0, 0),
+    ("aboard", "word_in", (SETUP, FLIGHT, 14, STORY, 0), errors.NoRow), ("known", "check_known", (SETUP,), errors.Refused),
+    ("known", "known_of", (SETUP,), errors.BadLog), ("known", "both_known", (SETUP, KNOWN), errors.Refused),
+    ("known", "tells_all", (SETUP,), errors.Refused, KNOWN), ("known", "row_known", (SETUP, KNOWN, 1), errors.NoRow),
+    ("known", "picture", (SETUP, KNOWN), errors.NoClass, 3), ("known", "lacks", (SETUP, KNOWN, 0), errors.Refused),
+    ("known", "told_to", (SETUP, KNOWN), errors.NoClass),
 )
 
 

@@ -1,4 +1,4 @@
-"""The examples of the document, chapters 3 to 11, as they stand there."""
+"""The examples of the document, chapters 3 to 15, as they stand there."""
 
 import doctest
 
@@ -85,11 +85,50 @@ LINK = """
 """
 LOGS = """
 >>> from farstory.logs import check_logs, joined, outstanding
+>>> from farstory.stories import story_holds
 >>> setup = (((2, 3, 2),), (1, 2), (1, 1))
 >>> frame = (0, 4, 0, ((2, 0, 3),), ((0, (0, 1, 7, 7, 7)),))
 >>> logs = ((("sent", 10, (1, ("free", 0, 1))), ("heard", 12, frame)), (("heard", 11, frame),))
 >>> joined(setup, logs)[1:], outstanding((frame,), joined(setup, logs)[2])
 ((((0, 11), (0, 12)), ((1, ('free', 0, 1), (10,)),)), (1, ('free', 0, 1), (10,)))
+>>> story_holds(setup, logs, 12, (6, (None,), (((0, 7), (3, 0), (5, 9)),))), story_holds(setup, logs, 12, (6, (4,), (((0, 7), (3, 0), (5, 9)),)))
+(True, False)
+"""
+OFFSETS = """
+>>> from farstory.offsets import bindings, offsets, past_rows
+>>> setup = (((2, 3, 2),), (0, 4), (1, 2))
+>>> one, other = (0, 4, 0, ((2, 0, 4),), ((0, (1, 1, 7, 7, 7)),)), (1, 9, 1, ((4, 0, 9),), ())
+>>> logs = ((("heard", 9, one), ("sent", 12, (1, ("free", 0, 1))), ("heard", 17, other)),)
+>>> bindings(setup, logs)[2], offsets(setup, logs), past_rows(setup, logs, 4)[0]
+(('taken', 1, ((4, 8),)), ((4, 5),), (9,))
+"""
+COUNTS = """
+>>> from farstory.counts import laid_now, letter_word, pairs
+>>> setup, frame = (((2, 3, 2),), (1, 2), (1, 1)), (0, 4, 0, ((2, 0, 3),), ((0, (0, 1, 7, 7, 7)),))
+>>> logs = ((("sent", 10, (1, ("free", 0, 1))), ("heard", 12, frame)), (("heard", 11, frame),))
+>>> [one[:2] for one in pairs(setup, logs, 12, 0)], laid_now(setup, logs, 13, 0), letter_word(setup, logs, 12)
+([(None, 3), (2, 3), (3, 3)], (3, 4), 'open')
+"""
+ABOARD = """
+>>> from farstory.aboard import row_word, row_words, shapes_at, word_in
+>>> setup, frame = (((2, 3, 2),), (1, 2), (1, 1)), (0, 4, 0, ((2, 0, 3),), ((0, (0, 1, 7, 7, 7)),))
+>>> logs = ((("sent", 10, (1, ("free", 0, 1))), ("heard", 12, frame)), (("heard", 11, frame),))
+>>> [one for one, story in shapes_at(setup, logs, 12, 0)], row_word(setup, logs, 12, 0, 2)
+([(3, ((0, 2), (2, 1))), (3, ((1, 1), (2, 1)))], ('sure', ('aboard', 2, 1)))
+>>> [word for word, story in row_words(setup, logs, 12, 0, 0)], row_word(setup, logs, 12, 0, 0)[0], row_word(setup, logs, 12, 0, 9)
+([('aboard', 0, 2), ('gone',)], 'open', ('sure', ('later',)))
+>>> word_in(setup, logs, 12, (6, (5,), (((0, 7), (3, 0), (6, 9)),)), 0, 1)
+('aboard', 1, 1)
+"""
+KNOWN = """
+>>> from farstory.known import both_known, lacks, picture, row_known, tells_all, told_to
+>>> setup = (((1, 3, 2), (2, 2, 4)), (0, 5), (0, 5))
+>>> one, other = (((0, 2, 7, 3, 4), (4, 1, 9, 9, 9)), ()), (((0, 4, 10, 1, 4), (2, 1, 2, 2, 2)), ())
+>>> both = both_known(setup, one, other)
+>>> both[0], row_known(setup, both, 0, 0), row_known(setup, both, 0, 3), row_known(setup, one, 0, 2)
+(((0, 2, 7, 3, 4), (0, 4, 10, 1, 4), (2, 1, 2, 2, 2), (4, 1, 9, 9, 9)), ('within', 0, 2), ('value', 1), ('untold',))
+>>> picture(setup, both, 0, 6), lacks(setup, one, 0, 6), told_to(setup, both, 0), tells_all(setup, both, one)
+(((0, 1, ('within', 0, 2)), (2, 4, ('value',)), (5, 5, ('untold',))), ((2, 3), (5, 5)), 5, True)
 """
 
 
@@ -125,5 +164,17 @@ class Examples(Case):
     def test_link(self):
         self.holds(LINK, 7)
 
-    def test_logs(self):
-        self.holds(LOGS, 5)
+    def test_logs_and_stories(self):
+        self.holds(LOGS, 7)
+
+    def test_offsets(self):
+        self.holds(OFFSETS, 5)
+
+    def test_counts(self):
+        self.holds(COUNTS, 4)
+
+    def test_aboard(self):
+        self.holds(ABOARD, 6)
+
+    def test_known(self):
+        self.holds(KNOWN, 6)

@@ -1,0 +1,103 @@
+"""Counts: how many rows are laid by now, and how many lie ahead of the letter that is out."""
+
+from farstory.chains import counts_by, first_steps, laid_by, within
+from farstory.logs import check_logs, outstanding
+from farstory.offsets import Past
+from farstory.setups import need_kind
+from farstory.stories import need_now
+from farstory.stretches import merged
+
+
+class Present:
+    """What the logs tell of a tick behind all their rows."""
+
+    def __init__(self, setup, logs, now):
+        need_now(check_logs(setup, logs), now)
+        self.past = Past(setup, logs)
+        self.lot = self.past.common_lot()
+        self.now = now
+        self.letter = outstanding(self.past.frames, self.past.letters)
+
+    def all_offsets(self):
+        return [offset for low, high in self.lot for offset in range(low, high + 1)]
+
+    def steps(self, kind):
+        """(begin, low): rows behind the last frame go on from the last one told, none ahead of this stamp."""
+        return self.past.last[3][kind][2], self.past.last[1] + 1
+
+    def comings(self):
+        """The stretches of ticks, up to now, at which a copy of the letter that is out can come."""
+        if self.letter is None:
+            return ()
+        least, most = self.past.setup[2]
+        ways = [(tick + least, min(tick + most, self.now)) for tick in self.letter[2]]
+        return merged([way for way in ways if way[0] <= way[1]])
+
+    def stamps_of_taking(self, offset):
+        """The stamps at which the letter that is out can be taken, by an offset of the lot."""
+        first = self.past.last[1] + 1 + offset
+        return [tick - offset for low, high in self.comings() for tick in range(max(low, first), high + 1)]
+
+    def laid_behind(self, kind, offset):
+        """(fewest, most) rows of a kind that are laid behind the last frame by now."""
+        gap, pause, _ = self.past.kinds[kind]
+        begin, low = self.steps(kind)
+        return counts_by(gap, pause, begin, low, self.now - offset)
+
+    def laid_with(self, kind, offset, taking):
+        """By count of rows behind the last frame up to the taking: (it, fewest, most by now), as a list."""
+        gap, pause, _ = self.past.kinds[kind]
+        begin, low = self.steps(kind)
+        fewest, most = counts_by(gap, pause, begin, low, taking)
+        least, greatest = within(first_steps(gap, pause, begin), (low, None))
+        found = []
+        for count in range(fewest, most + 1):
+            # The next row is behind the taking, one step from the last row ahead of it.
+            soonest = max(least + count * gap, taking + 1)
+            latest = greatest if count == 0 else min(greatest + (count - 1) * pause, taking) + pause
+            stamp = self.now - offset
+            found.append((count, count + laid_by(latest, pause, stamp), count + laid_by(soonest, gap, stamp)))
+        return found
+
+    def pairs(self, kind):
+        """(ahead, laid, offset, taken), one for each pair of the first two; by laid, then ahead."""
+        told = self.past.last[3][kind][0]
+        found = {}
+        for offset in self.all_offsets():
+            fewest, most = self.laid_behind(kind, offset)
+            for laid in range(fewest, most + 1):
+                found.setdefault((told + laid, -1), (offset, None))
+            for taking in self.stamps_of_taking(offset):
+                for count, least, greatest in self.laid_with(kind, offset, taking):
+                    for laid in range(least, greatest + 1):
+                        found.setdefault((told + laid, told + count), (offset, taking))
+        return tuple([(None if ahead < 0 else ahead, laid, *found[laid, ahead]) for laid, ahead in sorted(found)])
+
+
+def present(setup, logs, now, kind):
+    """What the logs tell of a tick, the kind being one of the setup's."""
+    here = Present(setup, logs, now)
+    need_kind(here.past.kinds, kind)
+    return here
+
+
+def letter_word(setup, logs, now):
+    """None if no letter is out, "untaken" if in no story it is taken, else "open"."""
+    here = Present(setup, logs, now)
+    if here.letter is None:
+        return None
+    # By the least offset most stamps behind the last frame have come.
+    return "open" if here.stamps_of_taking(here.lot[0][0]) else "untaken"
+
+
+def pairs(setup, logs, now, kind):
+    """(rows ahead of the taking, rows laid by now, offset, stamp of taking), one for each pair of the first two."""
+    return present(setup, logs, now, kind).pairs(kind)
+
+
+def laid_now(setup, logs, now, kind):
+    """Ascending, all numbers of how many rows can be laid by now."""
+    here = present(setup, logs, now, kind)
+    told = here.past.last[3][kind][0]
+    counts = [here.laid_behind(kind, offset) for offset in here.all_offsets()]
+    return tuple(sorted({told + laid for fewest, most in counts for laid in range(fewest, most + 1)}))
