@@ -5,7 +5,7 @@ from farstory.logs import check_logs, outstanding
 from farstory.offsets import Past
 from farstory.setups import need_kind
 from farstory.stories import need_now
-from farstory.stretches import merged
+from farstory.stretches import common, merged
 
 
 class Present:
@@ -30,8 +30,8 @@ class Present:
         if self.letter is None:
             return ()
         least, most = self.past.setup[2]
-        ways = [(tick + least, min(tick + most, self.now)) for tick in self.letter[2]]
-        return merged([way for way in ways if way[0] <= way[1]])
+        ways = merged([(tick + least, tick + most) for tick in self.letter[2]])
+        return common(ways, ((0, self.now),))
 
     def stamps_of_taking(self, offset):
         """The stamps at which the letter that is out can be taken, by an offset of the lot."""

@@ -94,16 +94,15 @@ def row_known(setup, known, kind, row):
 def picture_of(spans, laid):
     """(low, high, word) of the rows below `laid`, as a list."""
     # Where no span begins or ends, the next row is known as the one ahead.
-    edges = sorted(set([0, *[span[0] for span in spans], *[behind(span) for span in spans]]))
+    ends = sorted(set([0, *[span[0] for span in spans], *[behind(span) for span in spans]]))
+    edges = [edge for edge in ends if edge < laid]
     stretches = []
-    for place, low in enumerate(edges):
-        end = edges[place + 1] if place + 1 < len(edges) else laid
-        high = min(end, laid) - 1
+    for low, end in zip(edges, edges[1:] + [laid]):
         word = word_at(spans, low)
-        if stretches and stretches[-1][2] == word and low <= high:
-            stretches[-1] = (stretches[-1][0], high, word)
-        elif low <= high:
-            stretches.append((low, high, word))
+        if stretches and stretches[-1][2] == word:
+            stretches[-1] = (stretches[-1][0], end - 1, word)
+        else:
+            stretches.append((low, end - 1, word))
     return stretches
 
 

@@ -228,7 +228,7 @@ class Flight:
         if number not in self.deeds:
             kind = self.chance.randrange(len(self.setup[0]))
             free = ("free", kind, self.chance.randrange(len(self.rows[kind]) + 2))
-            self.deeds[number] = self.chance.choice((free, free, ("note", self.chance.randrange(1000))))
+            self.deeds[number] = self.chance.choice((free, free, ("note", self.chance.randrange(3))))
         letter = (number, self.deeds[number])
         self.copies.append((tick, letter))
         self.logs[0].append(("sent", tick, letter))
@@ -377,3 +377,23 @@ def parted_logs(chance):
     ticks = [frame[1] + offset + chance.randrange(setup[1][1] + 1) for frame in (one, other)]
     rows = [("sent", tick, (1, ("note", 7))) for tick in copies]
     return setup, (tuple(rows), (("heard", ticks[0], one),), (("heard", ticks[1], other),))
+
+
+def pinned_logs(chance):
+    """(setup, logs) of one frame, ahead of which a letter was taken: each offset that can be pins its stamp."""
+    gap = chance.randrange(1, 3)
+    kind, other = (gap, gap + chance.randrange(4), 2), (1, 3, 2)
+    setup = ((other, kind), (0, chance.randrange(3, 9)), (0, 0))
+    end = chance.randrange(4, 12)
+    rows = [chance.choice(chains(one, end)) for one in setup[0]]
+    taking, below = chance.randrange(end + 1), chance.randrange(5)
+    deed = chance.choice((("free", 1, below), ("free", 1, below), ("note", 1)))
+    letter = (1, deed, ())
+    marks = []
+    for at, one in enumerate(setup[0]):
+        laid, spans = store_at(one, rows[at], frees_of([letter], [taking], at), end)
+        marks.append((laid, spans[0][0] if spans else laid, rows[at][-1] if laid else None))
+    offset = chance.randrange(3)
+    tick = end + offset + chance.randrange(setup[1][1] + 1)
+    sent = ("sent", taking + offset, (1, deed))
+    return setup, ((sent,), (("heard", tick, (4, end, 1, tuple(marks), ())),))

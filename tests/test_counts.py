@@ -57,6 +57,14 @@ class LetterWord(Case):
             logs = ((("sent", tick, FREE),), LOGS[1], (("heard", 12, FRAME),))
             self.same(letter_word(SETUP, logs, now), word)
 
+    def test_one_offset_is_enough(self):
+        # The offset is 6 to 8: only by the least one the copy can come behind the frame's stamp.
+        setup = (SETUP[0], (0, 2), (1, 1))
+        for tick, word in ((9, "untaken"), (10, "open")):
+            logs = ((("sent", tick, FREE),), (("heard", 12, FRAME),))
+            self.same(letter_word(setup, logs, 12), word)
+            self.same(letter_word(setup, logs, 40), word)
+
     def test_by_force(self):
         told = {}
         for setup, logs, now, present in flights(1, 60):

@@ -42,7 +42,7 @@ class Checks(Case):
             ("heard", 3), ("heard", 3, FRAME, 0), ("hear", 3, FRAME), ("Heard", 3, FRAME), (None, 3, FRAME), "abc",
             ("heard", 3, FRAME[:4]), ("heard", 3, None), ("heard", 3, NOTE), ("heard", 3, FRAME[:3] + (None, ())),
             ("heard", 3, FRAME[:4] + (((0, (0, 2, 7, 7, 7)),),)), (("heard",), 3, FRAME), (3, "heard", FRAME),
-            ("sent", 3, FRAME), ("sent", 3, None), ("sent", 3, (0, ("note", 9))), ("sent", 3, (True, ("note", 9))),
+            ("send", 3, NOTE), (None, 3, NOTE), ("sent", 3, FRAME), ("sent", 3, None), ("sent", 3, (0, ("note", 9))), ("sent", 3, (True, ("note", 9))),
             ("sent", 3, (1, ("free", 1, 0))), ("sent", 3, (1, ("note", 1000))),
         ) + tuple((word, tick, what) for tick in NO_NUMBERS + (END, END + 1) for word, what in (
             ("heard", FRAME), ("sent", NOTE))):

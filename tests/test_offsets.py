@@ -9,8 +9,8 @@ from farstory.probe import Probe
 from farstory.stories import story_holds
 from tests.helping import NO_INTEGERS, Case, are_logs, lists
 from tests.plain import (
-    all_stories, bent, flights, frames_of, frozen, letters_of, parted_logs, plain_free, plain_holds, plain_lay,
-    random_flight)
+    all_stories, bent, flights, frames_of, frozen, letters_of, parted_logs, pinned_logs, plain_free, plain_holds,
+    plain_lay, random_flight)
 
 SETUP = (((2, 3, 2),), (0, 4), (1, 2))
 ONE = (0, 4, 0, ((2, 0, 4),), ((0, (1, 1, 7, 7, 7)),))
@@ -227,6 +227,12 @@ class Quarrels(Case):
         # There is no letter of its number.
         self.quarrels(("taken", 1), self.logs_of(ONE, OTHER, letters=()))
         self.quarrels(("taken", 0), self.logs_of(ONE[:2] + (1,) + ONE[3:], letters=()))
+        # Also where there is a letter of that number.
+        later = (9, 12, 1, ((5, 0, 12),), ())
+        logs = ((("sent", 0, NOTE), ("heard", 20, later), ("sent", 20, (2, ("note", 1)))), (("heard", 20, ONE),))
+        self.quarrels(("taken", 5), logs + ((("heard", 20, (5, 9, 2, ((4, 0, 9),), ())),),))
+        self.quarrels(("taken", 11), logs + ((("heard", 20, (10, 15, 2, ((6, 0, 15),), ())),),
+                                             (("heard", 20, (11, 18, 1, ((7, 0, 18),), ())),)))
         # This ahead of what its marks tell, and of stamps that do not rise.
         self.quarrels(("taken", 1), self.logs_of(ONE, (1, 3, 2, ((9, 0, 9),), ())))
 
@@ -315,6 +321,26 @@ class ByForce(Case):
                 for kind, rows in enumerate(stamps):
                     self.same(len(rows), frames[-1][3][kind][0])
                     self.same(tuple(row[0] for row in story[2][kind])[:len(rows)], rows)
+
+    def test_rows_are_parted_by_the_letter_that_was_taken(self):
+        chance = random.Random(42)
+        wide = 0
+        for _ in range(250):
+            setup, logs = pinned_logs(chance)
+            now = last_tick(logs)
+            (_, sent, (_, deed)), (_, _, (_, end, _, marks, _)) = logs[0][0], logs[1][0]
+            stamps = set(range(end + 1))
+            if deed[0] == "free":
+                found = plain_takings(setup[0][1], (-1, (0, 0, None)), (end, marks[1]), deed[2])
+                stamps = {stamp for had in found.values() for stamp in had}
+            wanted = {sent - stamp for stamp in stamps if 0 <= now - end - sent + stamp <= setup[1][1]}
+            self.assertEqual(integers(offsets(setup, logs)), wanted)
+            wide += len(wanted) > 1
+            for offset in sorted(wanted):
+                story = past_story(setup, logs, offset)
+                self.assertTrue(plain_holds(setup, logs, now, story))
+                self.same(past_rows(setup, logs, offset)[0], story[1])
+        self.assertGreater(wide, 100)
 
     def test_bent_logs(self):
         chance = random.Random(40)

@@ -236,6 +236,16 @@ class Letters(Case):
             self.same(letter_at(SETUP, octets, 0), (letter, len(octets)))
         self.same(letter_octets(SETUP, (3, ("note", 999))), (0, 0, 0, 3, 1, 3, 231))
 
+    def test_kinds_of_the_setup(self):
+        for many in range(1, 7):
+            setup = kinds_of(*range(2, 2 + many))
+            for kind in range(8):
+                octets = (0, 0, 0, 9, 0, kind, 0, 0, 7)
+                if kind < many:
+                    self.same(letter_at(setup, octets, 0), ((9, ("free", kind, 7)), 9))
+                else:
+                    self.fails(Broken, 5, letter_at, setup, octets, 0)
+
     def test_refused(self):
         for value in ODD + ((END, ("note", 9)), [END, ["note", 9]], (0, ("note", 9)), (1, ("free", 2, 0)), (1, ("note", 1000))):
             self.refuses(value, letter_octets, SETUP, value)
