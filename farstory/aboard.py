@@ -24,6 +24,18 @@ def first_now(here, kind, ahead):
     return first_behind(here.past.kinds[kind][2], first, ahead, here.letter[1][2])
 
 
+def marks_now(here, kind):
+    """Ascending (first row aboard, rows laid) of all that some story has."""
+    told = here.past.last[3][kind][0]
+    found = {}
+    for count, stretches in here.ranges(kind).items():
+        first = first_now(here, kind, None if count < 0 else told + count)
+        for low, high in stretches:
+            for laid in range(told + low, told + high + 1):
+                found[first, laid] = True
+    return tuple(sorted(found))
+
+
 def firsts_now(here, kind):
     """By (first row aboard, rows laid) that some story has, a pair with which it comes about."""
     found = {}
@@ -75,6 +87,12 @@ def word_of(keep, first, laid, row):
         return ("later",)
     span = span_at(keep, first, laid, row)
     return ("gone",) if span is None else ("aboard", *span)
+
+
+def words_now(here, kind, row):
+    """Ascending all words of the row that some story has."""
+    keep = here.past.kinds[kind][2]
+    return tuple(sorted({word_of(keep, first, laid, row) for first, laid in marks_now(here, kind)}))
 
 
 def row_words(setup, logs, now, kind, row):

@@ -46,6 +46,12 @@ def first_steps(gap, pause, begin):
     return begin + gap, begin + pause
 
 
+def steps_behind(gap, pause, begin, low, rows):
+    """(least, greatest) stamp of the last of so many rows behind `begin`, none of them ahead of `low`."""
+    least, greatest = first_steps(gap, pause, begin)
+    return max(least, low) + (rows - 1) * gap, greatest + (rows - 1) * pause
+
+
 def within(stretch, window):
     """What a stretch and a window, perhaps without a bound, have in common, perhaps nothing."""
     low, high = window

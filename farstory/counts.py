@@ -1,7 +1,7 @@
 """Counts: how many rows are laid by now, and how many lie ahead of the letter that is out."""
 
 from farstory.chains import counts_by, first_steps, laid_by, within
-from farstory.logs import check_logs, outstanding
+from farstory.logs import check_logs, heard_rows, outstanding
 from farstory.offsets import Past
 from farstory.setups import need_kind
 from farstory.stories import need_now
@@ -74,6 +74,31 @@ class Present:
         return tuple([(None if ahead < 0 else ahead, laid, *found[laid, ahead]) for laid, ahead in sorted(found)])
 
 
+    def ranges(self, kind):
+        """By count of rows behind the last frame up to the taking (-1: not taken) the stretches of those by now."""
+        found = {}
+        for offset in self.all_offsets():
+            found.setdefault(-1, []).append(self.laid_behind(kind, offset))
+            for taking in self.stamps_of_taking(offset):
+                for count, least, greatest in self.laid_with(kind, offset, taking):
+                    found.setdefault(count, []).append((least, greatest))
+        return {count: merged(laid) for count, laid in found.items()}
+
+    def letter_word(self):
+        """None if no letter is out, "untaken" if in no story it is taken, else "open"."""
+        if self.letter is None:
+            return None
+        # By the least offset most stamps behind the last frame have come.
+        return "open" if self.stamps_of_taking(self.lot[0][0]) else "untaken"
+
+
+def heard_present(setup, logs, now):
+    """What checked logs tell of a tick; None if no frame was heard."""
+    if not heard_rows(logs):
+        return None
+    return Present(setup, logs, now)
+
+
 def present(setup, logs, now, kind):
     """What the logs tell of a tick, the kind being one of the setup's."""
     here = Present(setup, logs, now)
@@ -83,11 +108,7 @@ def present(setup, logs, now, kind):
 
 def letter_word(setup, logs, now):
     """None if no letter is out, "untaken" if in no story it is taken, else "open"."""
-    here = Present(setup, logs, now)
-    if here.letter is None:
-        return None
-    # By the least offset most stamps behind the last frame have come.
-    return "open" if here.stamps_of_taking(here.lot[0][0]) else "untaken"
+    return Present(setup, logs, now).letter_word()
 
 
 def pairs(setup, logs, now, kind):

@@ -8,6 +8,10 @@ MOST_HOUSES = 8
 TICKS_END = 1000000000
 
 
+def is_house_count(value):
+    return is_number(value) and 1 <= value <= MOST_HOUSES
+
+
 def are_houses(value):
     """Whether any value is a sequence of 1 to 8 sequences."""
     return is_sequence(value) and 1 <= len(value) <= MOST_HOUSES and all(is_sequence(log) for log in value)
@@ -46,6 +50,35 @@ def state_behind(state, row):
     return None if number != taken + 1 or is_unlike else (row[1], taken, row[2])
 
 
+def state_of(log):
+    """What a checked log comes to."""
+    state = empty_state()
+    for row in log:
+        state = state_behind(state, row)
+    return state
+
+
+def next_row(setup, house, log, value):
+    """A row as tuples, if it can stand behind a checked log of this house; None for any other value."""
+    row = checked_row(setup, house, value)
+    if row is None or state_behind(state_of(log), row) is None:
+        return None
+    return row
+
+
+def with_row(logs, house, row):
+    """The logs with one row more."""
+    return (*logs[:house], (*logs[house], row), *logs[house + 1:])
+
+
+def next_letter(log):
+    """(number, deed) that the next letter behind a checked log of house 0 must have, the deed None if it is free."""
+    _, taken, letter = state_of(log)
+    if letter is not None and letter[0] == taken + 1:
+        return letter
+    return taken + 1, None
+
+
 def checked_log(setup, house, log):
     rows = []
     state = empty_state()
@@ -74,6 +107,15 @@ def last_tick(logs):
 def heard_rows(logs):
     """(tick, frame) of all rows that tell a hearing, by house and place, as a list."""
     return [(row[1], row[2]) for log in logs for row in log if row[0] == "heard"]
+
+
+def tightest_places(log):
+    """(the place of the first hearing of the least tick less stamp, of the greatest); None if there is none."""
+    ways = [(row[1] - row[2][1], place) for place, row in enumerate(log) if row[0] == "heard"]
+    if not ways:
+        return None
+    greatest = max([way for way, _ in ways])
+    return min(ways)[1], min([place for way, place in ways if way == greatest])
 
 
 def frames_heard(logs):

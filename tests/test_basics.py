@@ -5,6 +5,7 @@ import importlib
 import inspect
 
 from farstory import errors
+from farstory.forms import write_row
 from tests.helping import ODD, Case, lists, nested, tuples
 
 CHAIN = (2, 5, 3, ((0, None), (9, 12), (0, 13)))
@@ -27,6 +28,20 @@ FLIGHT = (LOGS[0] + (("heard", 13, LATER), ("sent", 14, (2, ("note", 7)))), LOGS
 STORY = (1, (8, None), (((1, 5), (3, 7), (4, 0), (6, 0), (8, 6), (12, 1)), ((3, 40), (9, 0))))
 KNOWN = (((0, 2, 7, 3, 4), (4, 1, 9, 9, 9)), ())
 MORE = (((0, 4, 10, 1, 4), (2, 1, 2, 2, 2)), ())
+# One kind, a frame heard, and a letter that is out.
+ONE = (((2, 3, 2),), (1, 2), (1, 3))
+LAST = (0, 9, 0, ((5, 0, 8),), ((0, (4, 1, 7, 7, 7)),))
+HEARD = ((("heard", 16, LAST),), (("heard", 17, LAST),))
+SENT = (HEARD[0] + (("sent", 20, (1, ("note", 3))),), HEARD[1])
+HEARD_NOT = ((), ())
+WANTED = ((0, 0, 2), (0, 2, 2), (0, 4, 1))
+PASS = (ONE, LAST, (10, 11, 12), 2, 0, WANTED)
+PLAN = (((0, 4, 1),), ((0, 0, 2), (0, 2, 2)))
+PAPER = (5, 8, 17, (5, 11), (6, 11))
+HEAD = (4, 1, 3, 3, 1, 4, 15, 0, 6, 4, 1, 0, 1, 0)
+PAGES = (HEAD + ROW, ())
+BOOK_ROW = ("log", ONE, 1, HEARD[1])
+BOOK_PAGES = (HEAD + write_row(BOOK_ROW) + write_row(HEARD[1][0]), (4, 1))
 
 # By module each function of the interface, its parameters, and arguments of calls that it answers.
 CALLS = (
@@ -130,6 +145,47 @@ CALLS = (
     ("known", "picture", ("setup", "known", "kind", "laid"), ((SETUP, KNOWN, 0, 9),)),
     ("known", "lacks", ("setup", "known", "kind", "laid"), ((SETUP, KNOWN, 0, 9),)),
     ("known", "told_to", ("setup", "known", "kind"), ((SETUP, KNOWN, 0),)),
+    ("ground", "letter_now", ("setup", "logs"), ((SETUP, LOGS), (SETUP, FLIGHT), (SETUP, ((), ())))),
+    ("ground", "unknown_below", ("setup", "logs", "now", "kind", "below"), ((SETUP, LOGS, 11, 0, 9),)),
+    ("ground", "most_below", ("setup", "logs", "now", "kind"), ((SETUP, LOGS, 11, 0),)),
+    ("ground", "may_send", ("setup", "logs", "now", "deed"), (
+        (SETUP, LOGS, 11, LETTER[1]), (SETUP, FLIGHT, 15, ("note", 7)), (SETUP, HEARD_NOT, 9, ("free", 0, 0)))),
+    ("passes", "laid_when", ("keep", "first", "row", "many"), ((3, 2, 9, 4),)),
+    ("passes", "all_aboard", ("setup", "frame"), ((SETUP, FRAME), (ONE, LAST))),
+    ("passes", "life", ("setup", "frame", "span"), ((ONE, LAST, (0, 4, 1)),)),
+    ("passes", "lack", ("setup", "frame", "stamps", "room", "lost", "wanted", "many"), (PASS + (1,), PASS + (3,))),
+    ("passes", "fewest_frames", ("setup", "frame", "stamps", "room", "lost", "wanted"), (PASS, PASS[:4] + (1, WANTED))),
+    ("passes", "plan_of", ("setup", "frame", "stamps", "room", "lost", "wanted"), (PASS, PASS[:4] + (1, WANTED))),
+    ("passes", "plan_holds", ("setup", "frame", "stamps", "room", "lost", "wanted", "value"), (PASS + (PLAN,), PASS + (0,))),
+    ("passes", "known_ticks", ("setup", "logs", "stamps", "room", "lost", "wanted", "plan"), (
+        (ONE, HEARD) + PASS[2:] + (PLAN,), (ONE, HEARD, (), 1, 0, (), ()))),
+    ("parting", "laid_ticks", ("setup", "logs", "kind", "row"), ((ONE, HEARD, 0, 5),)),
+    ("parting", "joining_ticks", ("setup", "logs", "kind", "row", "many"), ((ONE, HEARD, 0, 4, 2), (ONE, HEARD, 0, 0, 2))),
+    ("parting", "laid_word", ("setup", "logs", "kind", "row", "tick"), ((ONE, HEARD, 0, 5, 16), (ONE, HEARD, 0, 5, -3))),
+    ("parting", "parting", ("setup", "logs", "kind", "row", "tick", "stamp"), (
+        (ONE, HEARD, 0, 5, 16, 10), (ONE, HEARD, 0, 5, 19, 10))),
+    ("parting", "parting_stamps", ("setup", "logs", "kind", "row", "tick", "low", "high"), ((ONE, HEARD, 0, 5, 16, 10, 15),)),
+    ("parting", "parting_holds", ("setup", "logs", "kind", "row", "tick", "stamp", "value"), (
+        (ONE, HEARD[:1], 0, 5, 16, 10, PAPER), (ONE, HEARD, 0, 5, 16, 10, 0))),
+    ("parting", "letter_stamps", ("setup", "logs"), ((ONE, SENT),)),
+    ("parting", "telling", ("setup", "logs", "stamp"), ((ONE, SENT, 15), (ONE, SENT, 18))),
+    ("journals", "plain_journal", ("pages",), ((PAGES,), (PAGES[::-1],))),
+    ("book", "folded", ("setup", "logs"), ((ONE, SENT), (SETUP, FLIGHT))),
+    ("book", "plain_book", ("pages",), ((BOOK_PAGES,),)),
+    ("houses", "join_logs", ("setup", "one", "other"), ((ONE, HEARD, SENT),)),
+    ("houses", "part_logs", ("setup", "logs", "lot"), ((ONE, SENT, (0,)),)),
+    ("houses", "tightest", ("setup", "logs", "house"), ((ONE, SENT, 0), (ONE, ((),), 0))),
+    ("houses", "view", ("setup", "logs", "now"), ((ONE, SENT, 21), (ONE, ((),), 0))),
+    ("houses", "lot_view", ("setup", "logs", "now", "lot"), ((ONE, SENT, 21, (0,)),)),
+    ("houses", "view_gains", ("setup", "logs", "now", "lot"), ((ONE, SENT, 21, (0,)), (ONE, ((), HEARD[1]), 21, (0,)))),
+    ("houses", "is_enough", ("setup", "logs", "now", "lot"), ((ONE, SENT, 21, (0,)), (ONE, SENT, 21, (0, 1)))),
+    ("houses", "enough_lots", ("setup", "logs", "now"), ((ONE, SENT, 21),)),
+    ("houses", "sure_lots", ("setup", "logs", "now", "kind", "row"), ((ONE, SENT, 21, 0, 4), (ONE, SENT, 21, 0, 99))),
+    ("meaning", "meaning", ("setup", "logs", "now"), (
+        (ONE, SENT, 21), (ONE, ((),), 3), (ONE, (HEARD[0], (("heard", 19, LAST),)), 19))),
+    ("meaning", "row_meaning", ("setup", "logs", "now", "kind", "row"), ((ONE, SENT, 21, 0, 4),)),
+    ("meaning", "value_story", ("setup", "logs", "now", "kind", "row", "word", "value"), (
+        (ONE, SENT, 20, 0, 5, ("aboard", 4, 2), 8), (ONE, SENT, 20, 0, 4, ("gone",), 7))),
 )
 
 # By module each class of the interface, the parameters of a new one, its methods with theirs, and its attributes.
@@ -142,6 +198,22 @@ CLASSES = (
         ("down", ("frame",)), ("up", ("tick", "letter")), ("can_hear", ("tick",)), ("can_come", ("stamp",)),
         ("hear", ("tick", "number")), ("come", ("stamp", "number")), ("is_over", ("tick",)),
     ), (SETUP, 100), ("setup", "offset", "frames", "letters")),
+    ("ground", "Ground", ("setup", "houses"), (
+        ("hear", ("house", "tick", "frame")), ("send", ("tick", "deed")),
+    ), (SETUP, 3), ("setup", "logs")),
+    ("journals", "Journal", (), (
+        ("lay", ("row",)), ("keep", ()), ("loose", ()), ("begin", ("rows",)), ("cut", ("left",)),
+    ), (), ("pages", "page", "term", "told", "kept")),
+    ("book", "new_book", ("setup", "house"), (
+        ("both_pages", ()), ("tell", ("row",)), ("tell_cut", ("row", "left")), ("fold_length", ()), ("fold", ()),
+        ("fold_cut", ("left",)),
+    ), (SETUP, 3), ("journal", "setup", "house", "rows")),
+    ("world", "World", ("setup", "offset", "houses"), (
+        ("lay", ("kind", "stamp", "value")), ("frame", ("stamp", "places")), ("come", ("stamp", "number")),
+        ("hear", ("house", "tick", "number")), ("letter_now", ()), ("send", ("tick", "deed")), ("again", ("tick",)),
+        ("tells", ("now",)), ("true_story", ()),
+    ), (SETUP, -4, 3), ("setup", "probe", "link", "logs", "rows", "taken")),
+    ("desk", "Desk", ("setup", "offset", "houses"), (("say", ("line",)),), (SETUP, 4, 3), ("world",)),
 )
 
 # Functions of which an argument may be any value: those ahead of it, what they then may raise, those behind it.
@@ -185,7 +257,30 @@ OF_ANY_VALUE = (
     ("known", "known_of", (SETUP,), errors.BadLog), ("known", "both_known", (SETUP, KNOWN), errors.Refused),
     ("known", "tells_all", (SETUP,), errors.Refused, KNOWN), ("known", "row_known", (SETUP, KNOWN, 1), errors.NoRow),
     ("known", "picture", (SETUP, KNOWN), errors.NoClass, 3), ("known", "lacks", (SETUP, KNOWN, 0), errors.Refused),
-    ("known", "told_to", (SETUP, KNOWN), errors.NoClass),
+    ("known", "told_to", (SETUP, KNOWN), errors.NoClass), ("ground", "letter_now", (SETUP,), errors.BadLog),
+    ("ground", "unknown_below", (SETUP, LOGS, 11, 0), errors.Refused), ("ground", "most_below", (SETUP, LOGS, 11), errors.NoClass),
+    ("ground", "may_send", (SETUP, LOGS, 11), errors.Refused), ("ground", "Ground", (SETUP,), errors.Refused),
+    ("passes", "laid_when", (3, 2, 9), errors.Refused), ("passes", "all_aboard", (ONE,), errors.BadFrame),
+    ("passes", "life", (ONE, LAST), errors.Refused), ("passes", "lack", PASS[:2], errors.Refused, 2, 0, WANTED, 0),
+    ("passes", "fewest_frames", PASS[:3], errors.Refused, 0, WANTED), ("passes", "plan_of", PASS[:5], errors.Refused),
+    ("passes", "plan_holds", PASS, ()), ("passes", "known_ticks", (ONE, HEARD) + PASS[2:], errors.Refused),
+    ("parting", "laid_ticks", (ONE, HEARD, 0), errors.NoRow), ("parting", "laid_word", (ONE, HEARD, 0, 5), errors.Refused),
+    ("parting", "joining_ticks", (ONE, HEARD, 0, 5), errors.Refused), ("parting", "telling", (ONE, SENT), errors.Refused),
+    ("parting", "parting", (ONE, HEARD, 0, 5), errors.Refused, 10),
+    ("parting", "parting_stamps", (ONE, HEARD, 0, 5, 16, 11), errors.Refused),
+    ("parting", "parting_holds", (ONE, HEARD, 0, 5, 16, 10), ()), ("parting", "letter_stamps", (ONE,), (errors.BadLog, errors.Refused)),
+    ("journals", "plain_journal", (), (errors.Refused, errors.BadOctets, errors.Broken)),
+    ("book", "folded", (ONE,), errors.BadLog), ("book", "new_book", (ONE,), errors.Refused),
+    ("book", "plain_book", (), (errors.Refused, errors.BadOctets, errors.Broken)),
+    ("houses", "join_logs", (ONE, HEARD), (errors.BadLog, errors.Refused)), ("houses", "part_logs", (ONE, SENT), errors.Refused),
+    ("houses", "tightest", (ONE, SENT), errors.Refused), ("houses", "view", (ONE,), errors.BadLog, 21),
+    ("houses", "lot_view", (ONE, SENT, 21), errors.Refused), ("houses", "view_gains", (ONE, SENT, 21), errors.Refused),
+    ("houses", "is_enough", (ONE, SENT, 21), errors.Refused), ("houses", "enough_lots", (ONE,), errors.BadLog, 21),
+    ("houses", "sure_lots", (ONE, SENT, 21, 0), errors.NoRow), ("meaning", "meaning", (ONE,), errors.BadLog, 21),
+    ("meaning", "row_meaning", (ONE, SENT, 21, 0), errors.NoRow),
+    ("meaning", "value_story", (ONE, SENT, 21, 0, 4), errors.NoRow, 7), ("meaning", "value_story", (ONE, SENT, 21, 0, 4, 0), errors.Refused),
+    ("world", "World", (ONE,), errors.Refused, 2), ("world", "World", (ONE, 5), errors.Refused),
+    ("desk", "Desk", (ONE,), errors.Refused, 2),
 )
 
 
@@ -224,19 +319,26 @@ class Interface(Case):
     def test_classes(self):
         for module, name, parameters, methods, args, attributes in CLASSES:
             made = function_of(module, name)
-            self.assertEqual((made.__module__, made.__name__), ("farstory." + module, name))
-            self.assertTrue(inspect.isclass(made))
+            new = made(*args)
+            of_class = new.__class__
+            self.assertEqual(made.__module__, "farstory." + module)
+            self.assertEqual((of_class.__module__, inspect.isclass(of_class)), ("farstory." + module, True))
+            self.assertEqual(of_class.__name__, "Book" if module == "book" else name)
             self.assertEqual(tuple(inspect.signature(made).parameters), parameters)
             for method, wanted in methods:
                 # Defined in that class itself, not only in a base class.
-                self.assertTrue(inspect.isfunction(vars(made)[method]), method)
-                self.assertEqual(tuple(inspect.signature(vars(made)[method]).parameters)[1:], wanted)
-            new = made(*args)
+                self.assertTrue(inspect.isfunction(vars(of_class)[method]), method)
+                self.assertEqual(tuple(inspect.signature(vars(of_class)[method]).parameters)[1:], wanted)
             for attribute in attributes:
                 self.assertIn(attribute, vars(new))
-            self.same(tuples(vars(made(**dict(zip(parameters, lists(args)))))), tuples(vars(new)))
-            self.same([getattr(new, attribute) for attribute in attributes],
-                      [tuples(getattr(new, attribute)) for attribute in attributes])
+            again = made(**dict(zip(parameters, lists(args))))
+            for attribute in attributes:
+                found = getattr(new, attribute)
+                if isinstance(found, (tuple, int, str)):
+                    self.same(found, tuples(found))
+                    self.same(getattr(again, attribute), found)
+                else:
+                    self.assertIs(found.__class__, getattr(again, attribute).__class__)
 
 
 class AllCalls(Case):

@@ -36,6 +36,16 @@ def names_bound(tree):
             yield node.arg
         elif isinstance(node, (ast.FunctionDef, ast.ClassDef)):
             yield node.name
+        elif isinstance(node, ast.ExceptHandler) and node.name:
+            yield node.name
+
+
+def is_plain(node, functions):
+    """Whether what is assigned at module level is plain, or a dict of functions that are defined above."""
+    if isinstance(node, ast.Dict) and all(isinstance(value, ast.Name) for value in node.values):
+        return all(value.id in functions for value in node.values) and all(ast.literal_eval(key) for key in node.keys)
+    ast.literal_eval(node)
+    return True
 
 
 def imports_of(tree):
@@ -78,11 +88,14 @@ class Code(unittest.TestCase):
                 [alias.name for alias in node.names] if isinstance(node, ast.ImportFrom) else [])]
             self.assertEqual(len(names), len(set(names)), path)
             self.assertIsInstance(tree.body[0], ast.Expr, path)
+            functions = []
             for node in tree.body[1:]:
                 self.assertIsInstance(node, plain, path)
+                if isinstance(node, ast.FunctionDef):
+                    functions.append(node.name)
                 if isinstance(node, ast.Assign):
                     self.assertEqual(len(node.targets), 1)
-                    ast.literal_eval(node.value)
+                    self.assertTrue(is_plain(node.value, functions), path)
 
     def test_imports(self):
         seen = {}

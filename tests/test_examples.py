@@ -1,9 +1,17 @@
-"""The examples of the document, chapters 3 to 15, as they stand there."""
+"""The examples of the document, as they stand there."""
 
 import doctest
 
 from tests.helping import Case
 
+OVERVIEW = """
+>>> from farstory.desk import Desk
+>>> desk = Desk((((2, 3, 2),), (1, 2), (1, 1)), 6, 2)
+>>> [desk.say(line) for line in ("lay 0 0 7", "lay 0 3 -1", "frame 4 0:0", "send 10 free 0 1", "hear 1 11 0", "lay 0 5 9")]
+['row 0', 'row 1', 'frame 0', 'letter 1', 'heard', 'row 2']
+>>> [desk.say(line) for line in ("come 5 1", "hear 0 12 0", "offsets 12", "laid 12 0", "row 12 0 0")]
+['taken', 'heard', '6:6', '3', 'aboard 0 2 | gone']
+"""
 FORMS = """
 >>> from farstory.forms import healing, read_rows, read_value, value_length, write_row, write_value
 >>> write_value([None, -3, "ab"]), value_length(256 ** 2)
@@ -130,6 +138,89 @@ KNOWN = """
 >>> picture(setup, both, 0, 6), lacks(setup, one, 0, 6), told_to(setup, both, 0), tells_all(setup, both, one)
 (((0, 1, ('within', 0, 2)), (2, 4, ('value',)), (5, 5, ('untold',))), ((2, 3), (5, 5)), 5, True)
 """
+GROUND = """
+>>> from farstory.ground import Ground, letter_now, may_send, most_below, unknown_below
+>>> setup = (((2, 3, 2),), (1, 1), (1, 2))
+>>> ground = Ground(setup, 1)
+>>> ground.hear(0, 10, (0, 4, 0, ((2, 0, 4),), ((0, (0, 1, 7, 7, 7)),)))
+>>> unknown_below(setup, ground.logs, 11, 0, 3), most_below(setup, ground.logs, 11, 0), may_send(setup, ground.logs, 11, ("free", 0, 2))
+(((0, 2), (2, 1)), 1, False)
+>>> ground.send(11, ("free", 0, 1)), letter_now(setup, ground.logs), may_send(setup, ground.logs, 12, ("note", 3))
+((1, ('free', 0, 1)), (1, ('free', 0, 1)), False)
+"""
+PASSES = """
+>>> from farstory.passes import all_aboard, fewest_frames, known_ticks, lack, laid_when, life, plan_holds, plan_of
+>>> setup, frame = (((2, 3, 2),), (1, 2), (1, 1)), (0, 9, 0, ((5, 0, 8),), ())
+>>> all_aboard(setup, frame), life(setup, frame, (0, 4, 1)), laid_when(3, 2, 9, 4)
+(((0, 0, 2), (0, 2, 2), (0, 4, 1)), (2, 12, 14), 16)
+>>> wanted, plan = all_aboard(setup, frame), [[(0, 4, 1)], [(0, 0, 2), (0, 2, 2)]]
+>>> fewest_frames(setup, frame, (10, 11, 12), 2, 0, wanted), plan_holds(setup, frame, (10, 11, 12), 2, 0, wanted, plan)
+(2, True)
+>>> plan_of(setup, frame, (10, 11, 12), 2, 1, wanted), lack(setup, frame, (10, 11, 12), 2, 0, wanted, 1)
+(('lack', 1), 1)
+>>> known_ticks(setup, ((("heard", 16, frame),),), (10, 11, 12), 2, 0, wanted, plan)
+(17, 19)
+"""
+PARTING = """
+>>> from farstory.parting import joining_ticks, laid_ticks, laid_word, letter_stamps, parting, parting_holds, parting_stamps, telling
+>>> setup, frame = (((2, 3, 2),), (1, 2), (1, 3)), (0, 9, 0, ((5, 0, 8),), ())
+>>> logs = ((("heard", 16, frame),),)
+>>> laid_ticks(setup, logs, 0, 5), laid_word(setup, logs, 0, 5, 16), joining_ticks(setup, logs, 0, 4, 2)
+((15, 17), 'open', (6, 17, 20))
+>>> parting_holds(setup, logs, 0, 5, 16, 10, (5, 8, 17, (5, 11), (6, 11))), parting(setup, logs, 0, 5, 17, 10)
+(True, None)
+>>> even = (setup[0], (1, 1), (1, 3))
+>>> laid_word(even, logs, 0, 5, 16), parting_stamps(even, logs, 0, 5, 16, 10, 15)
+('open', (10, 11, 12))
+>>> logs = ((("heard", 16, frame), ("sent", 20, (1, ("note", 3)))),)
+>>> letter_stamps(setup, logs), [telling(setup, logs, stamp) for stamp in (14, 15, 17, 18)]
+((15, 18), ['not', 'perhaps', 'perhaps', 'surely'])
+"""
+BOOKS = """
+>>> from farstory.book import folded, new_book, open_book
+>>> setup, frame = (((1, 4, 2),), (2, 5), (1, 2)), (0, 3, 0, ((0, 0, None),), ())
+>>> book = new_book(setup, 0)
+>>> [book.tell(("sent", tick, (1, ("note", 7)))) for tick in (90, 91, 92)], [book.tell(("heard", tick, frame)) for tick in (105, 106, 107)]
+([1, 2, 3], [4, 5, 6])
+>>> book.tell_cut(("heard", 108, frame), 0), [row[1] for row in folded(setup, [book.rows])[0]], book.fold_cut(9)
+(False, [90, 92, 105, 107], False)
+>>> book.fold(), len(book.rows), open_book(book.both_pages()).rows == book.rows
+(None, 4, True)
+"""
+HOUSES = """
+>>> from farstory.houses import enough_lots, join_logs, lot_view, sure_lots, tightest, view, view_gains
+>>> setup, frame = (((2, 3, 2),), (1, 3), (1, 1)), (0, 2, 0, ((2, 0, 2),), ())
+>>> logs = tuple([(("heard", tick, frame),) for tick in (5, 4, 6)])
+>>> view(setup, logs, 6), lot_view(setup, logs, 6, (0,)), view_gains(setup, logs, 6, (0,))
+((((1, 1),), None, (((0, 3),),)), (((0, 2),), None, (((0, 2), (0, 3), (0, 4)),)), ((1, 1, (1,)), (2, 1, (1,))))
+>>> enough_lots(setup, logs, 6), sure_lots(setup, logs, 6, 0, 2), sure_lots(setup, logs, 6, 0, 3), tightest(setup, logs, 2)
+(((0, 1, 2),), ((0, 1),), ((0, 2),), (0, 0))
+>>> join_logs(setup, (logs[0], (), logs[2]), (logs[0], logs[1], ())) == logs
+True
+"""
+WHOLE = """
+>>> from farstory.meaning import meaning, row_meaning, value_story
+>>> from farstory.world import World
+>>> world = World((((2, 3, 2),), (1, 2), (1, 1)), 6, 2)
+>>> world.tells(5), world.lay(0, 0, 7), world.lay(0, 3, 5), world.send(9, ("note", 1)), world.come(4, 1), world.frame(4, [(0, 0)])[2]
+(('deaf',), 0, 1, 1, True, 1)
+>>> world.hear(0, 12, 0)[3], world.hear(1, 11, 0)[3], world.tells(12)[:3]
+(((2, 0, 3),), ((2, 0, 3),), ('told', ((6, 6),), None))
+>>> world.tells(12)[3], row_meaning(world.setup, world.logs, 13, 0, 3), row_meaning(world.setup, world.logs, 12, 0, 0)
+((((3,), ((0, 3),), ((0, 1, 7, 7, 7),)),), ((('aboard', 3, 1), ('later',)), ((-1000000, 1000000),)), ((('aboard', 0, 2),), ((7, 7),)))
+>>> value_story(world.setup, world.logs, 12, 0, 0, ("aboard", 0, 2), 8) is None, world.true_story()
+(True, (6, (4,), (((0, 7), (3, 5)),)))
+"""
+DESK = """
+>>> from farstory.desk import Desk
+>>> desk = Desk((((2, 3, 2),), (1, 2), (1, 1)), 6, 2)
+>>> [desk.say(line) for line in ("lay 0 0 7", "lay 0 3 -1", "frame 4 0:0", "send 10 free 0 1", "hear 1 11 0", "lay 0 5 9")]
+['row 0', 'row 1', 'frame 0', 'letter 1', 'heard', 'row 2']
+>>> [desk.say(line) for line in ("come 5 1", "hear 0 12 0", "hear 0 13 0", "told 12", "offsets 12", "letter 12", "laid 12 0")]
+['taken', 'heard', 'refused', 'told', '6:6', 'open', '3']
+>>> [desk.say(line) for line in ("row 12 0 0", "row 12 0 9", "value 12 0 0", "lacks 0 3")]
+['aboard 0 2 | gone', 'later', '7:7', '1:2']
+"""
 
 
 class Examples(Case):
@@ -178,3 +269,27 @@ class Examples(Case):
 
     def test_known(self):
         self.holds(KNOWN, 6)
+
+    def test_overview(self):
+        self.holds(OVERVIEW, 4)
+
+    def test_ground(self):
+        self.holds(GROUND, 6)
+
+    def test_passes(self):
+        self.holds(PASSES, 7)
+
+    def test_parting(self):
+        self.holds(PARTING, 9)
+
+    def test_books(self):
+        self.holds(BOOKS, 6)
+
+    def test_houses(self):
+        self.holds(HOUSES, 6)
+
+    def test_the_whole(self):
+        self.holds(WHOLE, 7)
+
+    def test_desk(self):
+        self.holds(DESK, 5)
