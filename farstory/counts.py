@@ -59,29 +59,33 @@ class Present:
             found.append((count, count + laid_by(latest, pause, stamp), count + laid_by(soonest, gap, stamp)))
         return found
 
+    def laid_ways(self, kind):
+        """(offset, taking, rows ahead of it, fewest, most by now) of all stories, rows being those behind the frame.
+
+        Where the letter is not taken, the taking is None, and the rows ahead are -1.
+        """
+        ways = []
+        for offset in self.all_offsets():
+            ways.append((offset, None, -1, *self.laid_behind(kind, offset)))
+            for taking in self.stamps_of_taking(offset):
+                ways.extend([(offset, taking, *way) for way in self.laid_with(kind, offset, taking)])
+        return ways
+
     def pairs(self, kind):
         """(ahead, laid, offset, taken), one for each pair of the first two; by laid, then ahead."""
         told = self.past.last[3][kind][0]
         found = {}
-        for offset in self.all_offsets():
-            fewest, most = self.laid_behind(kind, offset)
+        for offset, taking, count, fewest, most in self.laid_ways(kind):
+            ahead = -1 if count < 0 else told + count
             for laid in range(fewest, most + 1):
-                found.setdefault((told + laid, -1), (offset, None))
-            for taking in self.stamps_of_taking(offset):
-                for count, least, greatest in self.laid_with(kind, offset, taking):
-                    for laid in range(least, greatest + 1):
-                        found.setdefault((told + laid, told + count), (offset, taking))
+                found.setdefault((told + laid, ahead), (offset, taking))
         return tuple([(None if ahead < 0 else ahead, laid, *found[laid, ahead]) for laid, ahead in sorted(found)])
-
 
     def ranges(self, kind):
         """By count of rows behind the last frame up to the taking (-1: not taken) the stretches of those by now."""
         found = {}
-        for offset in self.all_offsets():
-            found.setdefault(-1, []).append(self.laid_behind(kind, offset))
-            for taking in self.stamps_of_taking(offset):
-                for count, least, greatest in self.laid_with(kind, offset, taking):
-                    found.setdefault(count, []).append((least, greatest))
+        for way in self.laid_ways(kind):
+            found.setdefault(way[2], []).append(way[3:])
         return {count: merged(laid) for count, laid in found.items()}
 
     def letter_word(self):

@@ -38,7 +38,6 @@ def meaning(setup, logs, now):
 def row_values(setup, logs, now, kind, row):
     """The stretches of the values that the row can have been laid with, by the spans told."""
     here = present(setup, logs, now, kind)
-    need_row(row)
     return stretches_at(here.past.told[kind], row)
 
 
