@@ -151,7 +151,7 @@ class Book:
     def checked(self, row):
         """The row as tuples, if it can stand behind the log and has a form."""
         told = next_row(self.setup, self.house, self.rows, row)
-        if told is None or not is_row(told):
+        if not is_row(told):
             raise BadLog((self.house, len(self.rows)))
         return told
 

@@ -6,7 +6,7 @@ from farstory.logs import outstanding
 from farstory.offsets import Past
 from farstory.passes import laid_when
 from farstory.setups import need_kind
-from farstory.stretches import greatest_up_to, has, least_from, merged
+from farstory.stretches import has, merged
 from farstory.words import is_integer, is_number, is_of_parts, need_integer
 
 MOST_STAMPS = 100
@@ -80,25 +80,15 @@ class Outlook:
         steps = laid - 1 - row
         return max(least, last - steps * pause), min(greatest, last - steps * gap)
 
-    def offsets_apart(self, tick, least, greatest):
-        """Two offsets by which one frame can be heard, the least stamp up to a tick, the greatest behind; or None."""
-        up_to = greatest_up_to(self.lot, tick - least)
-        later = least_from(self.lot, tick - greatest + 1)
-        if up_to is None or later is None:
-            return None
-        if up_to >= later:
-            return up_to, up_to
-        low, high = self.past.setup[1]
-        return (up_to, later) if later - up_to <= high - low else None
-
     def paper(self, kind, row, tick, stamp):
         """Some paper (laid, last, heard, one, other) by which it stays open; None if a frame surely parts it."""
+        # All offsets lie within the way of one hearing: so one tick of hearing can leave them all.
+        low, high = self.lot[0][0], self.lot[-1][1]
         for told in self.tellings(kind, stamp):
             least, greatest = self.stamps_by(kind, row, stamp, told)
-            apart = self.offsets_apart(tick, least, greatest)
-            if apart is not None:
-                heard = stamp + max(apart) + self.past.setup[1][0]
-                return (*told, heard, (apart[0], least), (apart[1], greatest))
+            if low + least <= tick < high + greatest:
+                heard = stamp + high + self.past.setup[1][0]
+                return (*told, heard, (low, least), (high, greatest))
         return None
 
     def is_by(self, value, kind, row, stamp, told, heard):
@@ -211,6 +201,6 @@ def telling(setup, logs, stamp):
     # Told as not taken it is sure by those offsets by which no copy can come behind the frame.
     if latest - here.lot[0][0] <= stamp:
         return "surely"
-    takings = here.takings()
-    can_be_told = len(takings) > 0 and takings[0][0] <= stamp
+    # Behind this stamp a copy can come: so there are stamps of taking.
+    can_be_told = here.takings()[0][0] <= stamp
     return "perhaps" if can_be_told or latest - here.lot[-1][1] <= stamp else "not"

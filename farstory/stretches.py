@@ -29,13 +29,3 @@ def common(one, other):
 def has(stretches, value):
     """Whether an integer lies in one of the stretches."""
     return any([low <= value <= high for low, high in stretches])
-
-
-def greatest_up_to(stretches, bound):
-    """The greatest integer of the stretches up to a bound; None if there is none."""
-    return max([min(high, bound) for low, high in stretches if low <= bound], default=None)
-
-
-def least_from(stretches, bound):
-    """The least integer of the stretches from a bound on; None if there is none."""
-    return min([max(low, bound) for low, high in stretches if high >= bound], default=None)

@@ -186,6 +186,15 @@ class Views(Case):
         self.same(view_gains(SETUP, logs, 6, (0,)), ((1, None, None), (2, None, None)))
         self.same(view_gains(SETUP, DEAF, 6, (0, 1)), ((2, None, None),))
 
+    def test_offsets_of_several_stretches(self):
+        setup = (((1, 2, 2),), (0, 9), (0, 0))
+        one, other = (0, 3, 0, ((4, 0, 3),), ()), (1, 4, 1, ((5, 0, 4),), ())
+        copies = tuple(("sent", tick, (1, ("note", 7))) for tick in (4, 6, 9))
+        logs = (copies + (("heard", 10, one), ("heard", 10, other)), (("heard", 5, other),))
+        self.same(lot_view(setup, logs, 10, (0,))[0], ((0, 0), (2, 2), (5, 5)))
+        self.same(view(setup, logs, 10)[0], ((0, 0),))
+        self.same(view_gains(setup, logs, 10, (0,))[0][:2], (1, 2))
+
     def test_by_force(self):
         for setup, logs, now, _ in flights(1, 60):
             for lot in plain_lots(len(logs)):

@@ -238,6 +238,19 @@ class Parting(Case):
         heard = {tick for tick in range(10, 30) for one in (5, 6) for other in (5, 6) for stamp in (11, 12)
                  if parting_holds(setup, late, 0, 5, 16, 10, (5, 8, tick, (one, 11), (other, 11)))}
         self.same(heard, {17, 18})
+        # Other offsets would do for that hearing, but not for those in the logs.
+        self.same(parting_holds(setup, late, 0, 5, 16, 10, (5, 8, 17, (5, 11), (6, 11))), True)
+        self.same(parting_holds(setup, late, 0, 5, 16, 10, (5, 8, 17, (4, 11), (6, 11))), False)
+        self.same(parting_holds(setup, late, 0, 5, 16, 10, (5, 8, 18, (5, 11), (7, 11))), False)
+
+    def test_no_bool_is_an_integer(self):
+        setup, logs = (SETUP[0], (0, 1), (1, 1)), ((("heard", 1, (0, 0, 0, ((0, 0, None),), ())),),)
+        self.same(parting_holds(setup, logs, 0, 0, 1, 1, (1, 1, 2, (0, 1), (1, 1))), True)
+        for value in ((True, 1, 2, (0, 1), (1, 1)), (1, True, 2, (0, 1), (1, 1)), (1, 1, 2, (False, 1), (1, 1)),
+                      (1, 1, 2, (0, True), (1, 1)), (1, 1, 2, (0, 1), (True, 1)), (1, 1, 2, (0, 1), (1, True)),
+                      (1, 1, 2, ("a", 1), (1, 1)), (1, 1, 2, (0, "a"), (1, 1)), (1, 1, 2, (0, 1), (None, 1)),
+                      (1, 1, 2, (0, 1), (1, None)), (1, 1, 2, (0,), (1, 1)), (1, "a", 2, (0, 1), (1, 1))):
+            self.same(parting_holds(setup, logs, 0, 0, 1, 1, value), False)
 
     def test_lots_of_several_stretches(self):
         # By one hearing both offsets can be, if they are no further away than the way down is wide.
@@ -349,9 +362,11 @@ class Letters(Case):
         self.same(letter_stamps(setup, logs), (10, 30))
         self.same([telling(setup, logs, stamp) for stamp in (5, 9, 10, 29, 30)],
                   ["not", "not", "perhaps", "perhaps", "surely"])
-        logs = ((("sent", 4, (1, ("note", 0))), ("sent", 27, (1, ("note", 0))), ("heard", 30, other),
-                 ("sent", 30, (2, ("note", 1)))), (("heard", 30, one),))
-        self.same(letter_stamps(setup, logs), (7, 30))
+        # The offset is 0 or 26; by 26 the copy of letter 2 comes at the frame's stamp.
+        rows = [("sent", tick, (1, ("note", 0))) for tick in (4, 30)] + [("heard", 30, other), ("sent", 30, (2, ("note", 1)))]
+        logs = (tuple(rows), (("heard", 30, one),))
+        self.same(letter_stamps(setup, logs), (30, 30))
+        self.same([telling(setup, logs, stamp) for stamp in (5, 29, 30)], ["perhaps", "perhaps", "surely"])
 
     def test_by_force(self):
         words = {"surely": 0, "perhaps": 0, "not": 0}
