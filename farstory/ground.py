@@ -4,6 +4,7 @@ from farstory.chains import counts_by
 from farstory.counts import present
 from farstory.errors import Refused
 from farstory.logs import TICKS_END, check_logs, is_house_count, joined_rows, last_tick, next_letter, with_row
+from farstory.passes import laid_when
 from farstory.setups import MOST_LAID, check_deed, check_frame, check_setup
 from farstory.shapes import shape
 from farstory.stories import need_now
@@ -44,9 +45,11 @@ def unknown_then(here, kind, below):
     keep = here.past.kinds[kind][2]
     if below <= first:
         return ()
+    # With so many rows laid the eldest span reaches beyond the row: then nothing lies below it any more.
+    most = laid_when(keep, first, first, below - first + 1)
     gone = {}
     for low, high in laid_then(here, kind):
-        for laid in range(low, high + 1):
+        for laid in range(low, min(high, most) + 1):
             for place in shape(keep, first, laid):
                 if place[0] + place[1] <= below:
                     gone[place] = True
